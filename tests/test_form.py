@@ -1,0 +1,127 @@
+"""The form of the package's files, as far as a walk through them can tell it."""
+
+import ast
+import unittest
+from pathlib import Path
+
+PACKAGE = Path(__file__).resolve().parent.parent / "wherelaid"
+LIBRARY = {"math": ("gcd", "lcm", "isqrt", "comb", "perm", "factorial")}
+BUILTINS = {
+    "len", "range", "enumerate", "zip", "min", "max", "sum", "abs", "sorted", "reversed", "int",
+    "str", "bool", "list", "tuple", "dict", "set", "isinstance", "ord", "repr", "any", "all",
+    "divmod", "iter", "next", "map", "ValueError", "NotImplemented", "property", "staticmethod",
+    "classmethod", "super",
+}
+KNOWN_BUILTINS = set(vars(__builtins__) if not isinstance(__builtins__, dict) else __builtins__)
+METHODS = {
+    "__init__", "__eq__", "__repr__", "__str__", "__len__", "__enter__", "__exit__", "__call__",
+    "__iter__",
+}
+BARRED = (ast.AsyncFunctionDef, ast.Await, ast.AsyncFor, ast.AsyncWith, ast.Div, ast.Global)
+
+
+def files():
+    """The couples (path, tree) of all files of the package."""
+    return [(path, ast.parse(path.read_text())) for path in sorted(PACKAGE.rglob("*.py"))]
+
+
+def nodes(kind):
+    for path, tree in files():
+        for node in ast.walk(tree):
+            if isinstance(node, kind):
+                yield f"{path.name}:{getattr(node, 'lineno', 0)}", node
+
+
+class Form(unittest.TestCase):
+
+    def test_the_folder(self):
+        found = [path for path in PACKAGE.iterdir() if path.name != "__pycache__"]
+        self.assertTrue(all(path.suffix == ".py" for path in found))
+        self.assertTrue(all(path.name == path.name.lower() for path in found))
+        self.assertLessEqual(len(found), 100)
+
+    def test_sizes_and_characters(self):
+        for path, _ in files():
+            text = path.read_text()
+            self.assertTrue(text.endswith("\n"), path)
+            self.assertTrue(all(sign == "\n" or " " <= sign <= "~" for sign in text), path)
+            self.assertLessEqual(len(text.splitlines()), 399, path)
+            self.assertLessEqual(max([len(row) for row in text.splitlines()]), 120, path)
+        for at, node in nodes(ast.FunctionDef):
+            self.assertLessEqual(node.end_lineno - node.lineno + 1, 40, at)
+
+    def test_imports(self):
+        for at, _ in nodes(ast.Import):
+            self.fail(at)
+        for at, node in nodes(ast.ImportFrom):
+            self.assertEqual(node.level, 0, at)
+            for name in node.names:
+                self.assertIsNone(name.asname, at)
+                if node.module in LIBRARY:
+                    self.assertIn(name.name, LIBRARY[node.module], at)
+                else:
+                    file = PACKAGE / f"{node.module.removeprefix('wherelaid.')}.py"
+                    bound = [getattr(part, "name", None) for part in ast.parse(file.read_text()).body]
+                    bound += [part.targets[0].id for part in ast.parse(file.read_text()).body
+                              if isinstance(part, ast.Assign)]
+                    self.assertIn(name.name, bound, at)
+
+    def test_statements(self):
+        for at, _ in nodes(BARRED):
+            self.fail(at)
+        for at, node in nodes(ast.BinOp):
+            if isinstance(node.op, ast.Pow):
+                self.assertIn(node.right.value, range(65), at)
+        for at, node in nodes((ast.FunctionDef, ast.ClassDef)):
+            for decorator in node.decorator_list:
+                self.assertEqual(ast.unparse(decorator), "property", at)
+            if node.name.startswith("__"):
+                self.assertIn(node.name, METHODS, at)
+
+    def test_no_generator_expressions(self):
+        # Classes here have `__eq__`: then any, all, sum, min, max and sorted take a list.
+        for at, _ in nodes(ast.GeneratorExp):
+            self.fail(at)
+
+    def test_builtins(self):
+        for at, node in nodes(ast.Name):
+            if node.id in KNOWN_BUILTINS:
+                self.assertIn(node.id, BUILTINS, at)
+                self.assertIsInstance(node.ctx, ast.Load, at)
+        for at, node in nodes(ast.arg):
+            self.assertNotIn(node.arg, KNOWN_BUILTINS, at)
+
+    def test_parameters_and_imports_are_unlike(self):
+        for path, tree in files():
+            bound = [name.name for part in tree.body if isinstance(part, ast.ImportFrom)
+                     for name in part.names]
+            bound += [part.name for part in tree.body if isinstance(part, ast.ClassDef)]
+            for node in ast.walk(tree):
+                if isinstance(node, ast.arg):
+                    self.assertNotIn(node.arg, bound, path)
+                if isinstance(node, ast.Name) and isinstance(node.ctx, ast.Store):
+                    self.assertNotIn(node.id, bound, path)
+
+    def test_strings(self):
+        for at, node in nodes(ast.Constant):
+            if isinstance(node.value, float):
+                self.fail(at)
+            if isinstance(node.value, str):
+                self.assertNotIn("%", node.value, at)
+
+    def test_no_rings_of_imports(self):
+        needs = {}
+        for path, tree in files():
+            needs[f"wherelaid.{path.stem}"] = [
+                part.module for part in tree.body if isinstance(part, ast.ImportFrom)]
+        settled = set(LIBRARY)
+        while needs:
+            ready = [name for name in needs if settled.issuperset(needs[name])]
+            self.assertTrue(ready, needs)
+            for name in ready:
+                settled.add(name)
+                del needs[name]
+
+
+if __name__ == "__main__":
+    unittest.main()

@@ -1,0 +1,1 @@
+"""wherelaid: scales on legs, judged for all ways to share a load."""
