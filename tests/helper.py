@@ -1,7 +1,10 @@
 """What several test files need: short ways to write ratios, places and scales, and checks."""
 
+import random
 import unittest
 from fractions import Fraction
+from itertools import combinations
+from math import gcd
 
 from wherelaid.scales import Lever, Plain, Scale
 
@@ -93,6 +96,145 @@ def scale():
 def plain():
     """A Plain with four legs."""
     return Plain(corners(), (ratio(1), ratio("1/2"), ratio("2/3"), ratio(4)))
+
+
+def great(figures, steps):
+    """A ratio with so many figures on top and bottom, another one for each number of steps."""
+    bottom = 10 ** figures - 1 - 2 * steps
+    top = 10 ** (figures - 1) + 7 * steps
+    while gcd(top, bottom) != 1:
+        top += 1
+    return (top, bottom)
+
+
+# Legs in all kinds of ways to stand, each with a name.
+LAYOUTS = {
+    "two": (place(0, 0), place(4, 2)),
+    "three in a row": (place(2, 1), place(0, 0), place(6, 3)),
+    "four upright": (place(1, 5), place(1, -3), place(1, 2), place(1, 0)),
+    "six in a row": tuple([place(Fraction(k, 2), -k) for k in (3, 0, 5, 1, -2, 4)]),
+    "close row": (place(0, 0), place(0, 1), place(0, 3), place(0, 2)),
+    "triangle": (place(0, 0), place(6, 0), place(0, 6)),
+    "triangle clockwise": (place(0, 3), place(3, -1), place(-2, -2)),
+    "square": corners(),
+    "one inside": (place(2, 1), place(0, 0), place(7, 0), place(0, 6)),
+    "one on a side": (place(0, 0), place(4, 0), place(0, 4), place(2, 2)),
+    "crossed": (place(0, 0), place(4, 4), place(4, 0), place(0, 4), place(2, 2)),
+    "five": (place(0, 0), place(5, -1), place(7, 4), place(2, 6), place(-2, 3)),
+    "row and one": (place(0, 0), place(1, 0), place(2, 0), place(4, 0), place(1, 3)),
+    "grid": tuple([place(x, y) for y in (0, 1) for x in (0, 1, 2)]),
+    "six": six_places(),
+    "hexagon": (place(2, 0), place(1, 2), place(-1, 2), place(-2, 0), place(-1, -2), place(1, -2)),
+    "two inside": (place(1, 1), place(0, 0), place(9, 1), place(1, 8), place(2, 3), place(-3, 5)),
+    "fractions": (place("1/2", "1/3"), place("-7/5", 2), place("9/4", "-5/6"), place(0, "11/7")),
+    "great": tuple([(great(12, 3 * k), great(12, 5 * k * k + 1)) for k in range(6)]),
+    "far": (place(SMALL, -SMALL), place(-SMALL, SMALL), place(SMALL, SMALL), place(0, 0)),
+}
+
+ROWS = ("two", "three in a row", "four upright", "six in a row", "close row")
+
+
+def factors_for(places):
+    """Some tuples of factors for these places: even, in one plane, and neither."""
+    lot = random.Random(len(places) * 31 + places[0][0][1])
+    flat = [Fraction(1, 7) * fraction(x) - Fraction(2, 3) * fraction(y) for x, y in places]
+    low = min(flat)
+    return (
+        tuple([ratio("5/3")] * len(places)),
+        tuple([ratio(height - low + 1) for height in flat]),
+        tuple([ratio(Fraction(lot.randint(1, 9), lot.randint(1, 4))) for _ in places]),
+        tuple([ratio(lot.randint(1, 3)) for _ in places]),
+        tuple([great(150, 11 * k * k) for k in range(len(places))]),
+    )
+
+
+def plains():
+    """Plains with all layouts and some factors, each with a name."""
+    for name, places in LAYOUTS.items():
+        for number, factors in enumerate(factors_for(places)):
+            # The flat factors of far places would be too great, and the great ones take long.
+            if all(Fraction(*factor) <= 10 ** 150 for factor in factors):
+                yield f"{name} {number}", Plain(places, factors)
+
+
+def some_loads(places):
+    """Rows of 0 to 8 loads: none, of weight 0, at legs, on sides, inside, beyond."""
+    yield ()
+    yield ((ratio(0), place(5, 5)), (ratio(0), places[0]))
+    yield ((ratio("7/2"), places[-1]),)
+    yield ((ratio(2), places[0]), (ratio(3), places[1]))
+    mean = tuple(ratio(sum(fraction(one[axis]) for one in places) / len(places)) for axis in (0, 1))
+    if max(abs(part) for one in mean for part in one) <= SMALL:
+        yield ((ratio(1), mean),)
+    eight = tuple([(ratio(k % 3), places[k % len(places)]) for k in range(8)])
+    yield eight
+    # Each of these is beyond some side, all of them together need not be.
+    yield ((ratio(1), place(100, 100)),)
+    yield ((ratio("1/9"), place(100, -70)), (ratio("1/9"), place(-100, 70)))
+    yield eight[:7] + ((ratio(1), place(-3, 8)),)
+
+
+def solve(columns, right):
+    """The only solution of the sums of size * column = right, None if there is none or more."""
+    rows = [[*row, end] for *row, end in zip(*columns, right)]
+    many = len(columns)
+    for at in range(many):
+        found = [row for row in rows[at:] if row[at] != 0]
+        if not found:
+            return None
+        rows.remove(found[0])
+        rows.insert(at, [part / found[0][at] for part in found[0]])
+        for other in range(len(rows)):
+            if other != at:
+                scaled = rows[other][at]
+                rows[other] = [one - scaled * two for one, two in zip(rows[other], rows[at])]
+    if any(row[-1] != 0 for row in rows[many:]):
+        return None
+    return [row[-1] for row in rows[:many]]
+
+
+def column(there):
+    """What a weight 1 at the place adds: to the total and to both sums."""
+    return [Fraction(1), fraction(there[0]), fraction(there[1])]
+
+
+def borne(loads):
+    """The total and both sums of the loads, as Fractions."""
+    rows = [[fraction(weight) * part for part in column(there)] for weight, there in loads]
+    return [sum(parts, Fraction(0)) for parts in zip([0, 0, 0], *rows)]
+
+
+def fits(places, loads, pushes):
+    """Whether these are pushes that fit, by the words of the document."""
+    amounts = [fraction(push) for push in pushes]
+    if len(amounts) != len(places) or min(amounts) < 0:
+        return False
+    return borne(list(zip(pushes, places))) == borne(loads)
+
+
+def shown(scale, pushes):
+    """The showing of pushes as a Fraction."""
+    return sum(fraction(one) * fraction(two) for one, two in zip(scale.factors, pushes))
+
+
+def lean_by_solving(places, loads):
+    """All lean pushes that fit, as Fractions, by solving the equations for each lot of legs."""
+    right = borne(loads)
+    if right[0] == 0:
+        return [(Fraction(0),) * len(places)]
+    found = set()
+    for size in (1, 2, 3):
+        for lot in combinations(range(len(places)), size):
+            amounts = solve([column(places[leg]) for leg in lot], right)
+            if amounts is not None and min(amounts) >= 0:
+                sizes = dict(zip(lot, amounts))
+                found.add(tuple(sizes.get(leg, Fraction(0)) for leg in range(len(places))))
+    return sorted(found)
+
+
+def height(plane, there):
+    """The height of a plane over a place as a Fraction."""
+    return sum(fraction(part) * size for part, size in zip(plane, column(there)))
 
 
 class Case(unittest.TestCase):

@@ -2,6 +2,7 @@
 
 import importlib
 import inspect
+import re
 import unittest
 
 # As the interface lists them; a class has the arguments of its constructor.
@@ -37,6 +38,48 @@ LISTED = {
         shifted_loads(loads, by) turned_loads(loads) mirrored_loads(loads)
         stretched_loads(loads, size)
     """,
+    "scaletext": "scale_text(scale, loads=()) read_scale(text)",
+    "hulls": """
+        corner_points(points) hull_of(places) sides_of(places) side_beyond(places, place)
+        is_within(places, place) bearing_legs(places, place) one_way(places, place)
+        Side(normal, least, legs)
+    """,
+    "pushes": """
+        check_pushes(legs, pushes) pushes_fault(places, loads, pushes) showing_of(scale, pushes)
+        lean_pushes(places, loads) mix_of(places, loads, pushes) share_range(places, place, leg)
+    """,
+    "skins": """
+        height_at(plane, place) range_of(scale, loads) range_fault(scale, loads, told)
+        lower_at(scale, place) upper_at(scale, place) skin_pieces(scale, *, upper=False)
+        knots_along(scale, start, goal, *, upper=False) pushes_for(scale, loads, showing)
+        Tips(side) Range(least, greatest, low_pushes, high_pushes, low_plane, high_plane)
+        Piece(legs, plane)
+    """,
+    "swaps": """
+        is_swap(places, thing) plain_swaps(places) least_swaps(places) free_legs(places)
+        split_swap(places, numbers)
+    """,
+    "settled": """
+        is_settled(scale) settled_of(scale) settled_fault(scale, told)
+        settling_factor(scale, leg) Settled(plane) Unsettled(swap, loads, pushes, other_pushes)
+    """,
+    "doubts": """
+        doubt_at(scale, place) greatest_doubt(scale) doubt_fault(scale, told)
+        Doubt(size, place, swap, plane)
+    """,
+    "even": """
+        is_even(scale) uneven_of(scale) error_range(scale, factor) best_factor(scale)
+        outside_error(scale, factor, error) Uneven(leg, other)
+    """,
+    "monomials": """
+        check_values(letters, values) power_in(monomial, letter) size_at(monomial, values)
+        multiply(monomial, other) divide(monomial, other) Monomial(number, powers=())
+    """,
+}
+# Classes that keep what they are given and check nothing.
+RESULTS = {
+    "hulls": "Side", "skins": "Tips Range Piece", "settled": "Settled Unsettled",
+    "doubts": "Doubt", "even": "Uneven",
 }
 
 
@@ -45,20 +88,36 @@ class Interface(unittest.TestCase):
     def test_names_and_arguments(self):
         for file, text in LISTED.items():
             module = importlib.import_module(f"wherelaid.{file}")
-            for row in " ".join(text.split()).split(") "):
-                name, told = row.rstrip(")").split("(")
+            for name, told in re.findall(r"(\w+)\(((?:[^()]|\(\))*)\)", " ".join(text.split())):
                 thing = getattr(module, name)
                 self.assertEqual(str(inspect.signature(thing)), f"({told})", name)
                 self.assertEqual(thing.__module__, f"wherelaid.{file}", name)
+                self.assertEqual(thing.__name__, name)
 
-    def test_methods_stand_in_their_own_class(self):
-        from wherelaid.scales import Lever, Plain, Scale
-        for one in (Lever, Plain, Scale):
-            self.assertIn("__eq__", vars(one))
-            self.assertEqual(one.__bases__, (object,))
+    def test_classes_stand_alone_and_have_their_own_methods(self):
+        for file, text in LISTED.items():
+            module = importlib.import_module(f"wherelaid.{file}")
+            for name in re.findall(r"\b[A-Z]\w*(?=\()", text):
+                one = getattr(module, name)
+                self.assertIn("__eq__", vars(one))
+                self.assertEqual(one.__bases__, (object,))
+        from wherelaid.scales import Plain, Scale
         for one in (Plain, Scale):
             self.assertIn("__len__", vars(one))
             self.assertIsInstance(vars(one)["factors"], property)
+
+    def test_results_keep_the_very_things(self):
+        for file, names in RESULTS.items():
+            module = importlib.import_module(f"wherelaid.{file}")
+            for name in names.split():
+                one = getattr(module, name)
+                wanted = tuple(inspect.signature(one).parameters)
+                things = [[index] for index in range(len(wanted))]
+                made = one(*things)
+                self.assertEqual(tuple(vars(made)), wanted)
+                for thing, word in zip(things, wanted):
+                    self.assertIs(getattr(made, word), thing)
+                    self.assertIs(getattr(one(**dict(zip(wanted, things))), word), thing)
 
 
 if __name__ == "__main__":

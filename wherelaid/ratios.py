@@ -1,6 +1,6 @@
 """Whole numbers and ratios: points 0.4, 0.5, 1.1 and 1.2."""
 
-from math import gcd
+from math import gcd, lcm
 
 from wherelaid.errors import BadRatio, BadSize
 
@@ -134,6 +134,37 @@ def greatest_of(ratios):
         if compare(ratio, greatest) > 0:
             greatest = ratio
     return greatest
+
+
+def ascending(rows):
+    """Return the unlike ones of rows of as many ratios, ascending entry by entry by value."""
+    # Over one common bottom the tops stand in the order of the ratios.
+    bottom = _common_bottom([ratio for row in rows for ratio in row])
+    tops = [tuple(_tops_over(row, bottom)) for row in rows]
+    return [tuple([_in_lowest_terms(top, bottom) for top in row]) for row in sorted(set(tops))]
+
+
+def coprime_of(ratios):
+    """Return the tuple of whole numbers in the same proportion without a common divisor.
+
+    The ratios are not all 0; signs stay.
+    """
+    tops = _tops_over(ratios, _common_bottom(ratios))
+    common = 0
+    for top in tops:
+        common = gcd(common, top)
+    return tuple([top // common for top in tops])
+
+
+def _common_bottom(ratios):
+    common = 1
+    for _, bottom in ratios:
+        common = lcm(common, bottom)
+    return common
+
+
+def _tops_over(ratios, common):
+    return [top * (common // bottom) for top, bottom in ratios]
 
 
 def floor_of(one):
