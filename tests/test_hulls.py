@@ -64,6 +64,14 @@ class Corners(Case):
         self.assertEqual(hull_of(LAYOUTS["four upright"]), (0, 1))
         self.assertEqual(hull_of(LAYOUTS["six in a row"]), (2, 4))
 
+    def test_small_crosses(self):
+        unit = [place(0, 0), place(1, 0), place(0, 1), place("1/3", "1/3"), place("1/2", "1/3")]
+        self.assertEqual(hull_of(unit), (0, 1, 2))
+        self.assertEqual(hull_of(unit + [place(1, 1)]), (0, 1, 5, 2))
+        self.assertEqual(hull_of([place(0, 0), place(10 ** 12, 1), place("1/2", 0)]), (0, 2, 1))
+        near = [place(0, 0), place(10 ** 12, 10 ** 12), place(1, "999999999999/1000000000000")]
+        self.assertEqual(hull_of(near), (0, 2, 1))
+
     def test_by_the_document(self):
         for places in LAYOUTS.values():
             found = hull_of(places)

@@ -203,6 +203,7 @@ class Judging(Case):
                 Side([-1, 0], ratio(-4), (1, 2)), Side((-1, 0), ratio(-4), [1, 2]),
                 Side((-2, 0), ratio(-8), (1, 2)), Side((-1, 0), ratio(-3), (1, 2)),
                 Side((-1, 0), (-4, True), (1, 2)), Side((-1, 0), -4, (1, 2)), Side(None, None, None),
+                Side(None, ratio(-4), (1, 2)), Side((-1, 0), ratio(-4), None), Side(0, ratio(-4), 0),
                 Side((-1, 0), ratio(-4), (1,)), Side((1, 0), ratio(-4), (1, 2))):
             self.assertEqual(range_fault(plain(), BEYOND, Tips(thing)), "side")
 

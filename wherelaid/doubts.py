@@ -74,15 +74,13 @@ def _middle_plane(scale, size, swap):
         if number != 0:
             corners.append(scale.places[leg])
             heights.append(minus(scale.factors[leg], half if sign * number > 0 else negative(half)))
-    if len(corners) == 4:
-        return plane_through(corners[:3], heights[:3])
     return _turned_plane(scale, plane_through(corners[:2], heights[:2]), corners, half)
 
 
-def _turned_plane(scale, plane, row, half):
-    """Return the plane turned about the row until it is at most `half` from the other factors."""
-    slope = turn_place(way_to(row[0], row[1]))
-    turn = (negative(dot_of(slope, row[0])), slope[0], slope[1])
+def _turned_plane(scale, plane, corners, half):
+    """Return the plane turned about two places until it is at most `half` from all factors."""
+    slope = turn_place(way_to(corners[0], corners[1]))
+    turn = (negative(dot_of(slope, corners[0])), slope[0], slope[1])
     starts = []
     for place, factor in zip(scale.places, scale.factors):
         rise = height_at(turn, place)
@@ -90,7 +88,7 @@ def _turned_plane(scale, plane, row, half):
             gap = minus(factor, height_at(plane, place))
             ends = [over(minus(gap, half), rise), over(plus(gap, half), rise)]
             starts.append(least_of(ends))
-    # Each leg beside the row lets the turn lie in a stretch, and all these stretches meet.
+    # Each leg beside the row of the two lets the turn lie in a stretch, and all stretches meet.
     size = greatest_of(starts) if starts else ZERO
     return tuple([plus(part, times(size, more)) for part, more in zip(plane, turn)])
 

@@ -125,4 +125,4 @@ def one_way(places, place):
     bearing = bearing_legs(places, place)
     if len(bearing) < 3:
         return True
-    return len(bearing) == 3 and not in_row([tuple(places[leg]) for leg in bearing])
+    return len(bearing) == 3 and not in_row([places[leg] for leg in bearing])

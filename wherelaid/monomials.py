@@ -10,7 +10,7 @@ MOST_POWER = 100
 
 def is_letter(thing):
     """Whether the thing is a letter."""
-    return isinstance(thing, str) and thing in LETTERS
+    return thing in LETTERS
 
 
 def is_above_zero(thing):
@@ -85,8 +85,9 @@ def size_at(monomial, values):
     """Return the number times each letter's value to its power."""
     checked = check_values([letter for letter, _ in monomial.powers], values)
     size = monomial.number
-    for (_, power), (_, value) in zip(monomial.powers, checked):
-        size = times(size, _raised(value, power))
+    # Both are ascending by letter, with the same letters.
+    for letter_power, letter_value in zip(monomial.powers, checked):
+        size = times(size, _raised(letter_value[1], letter_power[1]))
     return size
 
 

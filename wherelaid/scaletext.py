@@ -87,13 +87,14 @@ def _next_number(found, kind):
 
 
 def _built_scale(found):
-    if found["plain"]:
-        return Plain([place for _, place in found["plain"]], [factor for factor, _ in found["plain"]])
+    plains = found["plain"]
+    if plains:
+        return Plain([values[1] for values in plains], [values[0] for values in plains])
     levers = [Lever(values[0]) for values in found["beam"]]
     for above, inward, out in found["lever"]:
         levers.append(Lever(out, above, inward))
-    legs = [(lever, seat) for lever, seat, _ in found["leg"]]
-    return Scale(levers, legs, [place for _, _, place in found["leg"]])
+    legs = found["leg"]
+    return Scale(levers, [values[:2] for values in legs], [values[2] for values in legs])
 
 
 def _read_row(row):
