@@ -39,7 +39,7 @@ def plain_swaps(places):
 def basis_of(places):
     """Return what plain_swaps returns, for places that are checked already."""
     # From the last leg on: a leg that the later ones make up leads a swap with them, any other
-    # one leads none. What leads no swap is never in a row, nor more than three.
+    # one leads none. Those that lead none are one, two, or three that are not in a row.
     swaps = []
     later = []
     for leg in reversed(range(len(places))):
