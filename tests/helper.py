@@ -1,11 +1,14 @@
 """What several test files need: short ways to write ratios, places and scales, and checks."""
 
+import copy
 import random
 import unittest
 from fractions import Fraction
 from itertools import combinations
 from math import gcd
 
+from wherelaid.arms import arms_of
+from wherelaid.castings import Casting
 from wherelaid.scales import Lever, Plain, Scale
 
 SMALL = 10 ** 12
@@ -19,6 +22,7 @@ NOT_RATIOS = (
     (1, 0), (0, 0), (1, -2), (-1, -1), (True, 2), (1, True), (False, 1), (1.0, 2), (1, 2.0),
     ("1", 2), (1, None), ((1, 1), 1), {1: 2},
 )
+NOT_ABOVE_ZERO = NOT_RATIOS + ((0, 1), (-1, 1), (-1, 2))
 # Ratios just within and just beyond the bounds of small ratios.
 SMALL_ENDS = ((SMALL, 1), (-SMALL, 1), (1, SMALL), (-1, SMALL), (SMALL, SMALL - 1))
 NOT_SMALL = (
@@ -77,6 +81,15 @@ def levers():
         Lever(ratio("7/2"), 0, ratio(2)),
         Lever(ratio(11), 1, ratio("2/3")),
     )
+
+
+def emptied(thing):
+    """Take all out of each list in the thing."""
+    if isinstance(thing, (list, tuple)):
+        for part in thing:
+            emptied(part)
+    if isinstance(thing, list):
+        thing.clear()
 
 
 def chain(many, out="1", inward="1"):
@@ -174,6 +187,85 @@ def some_loads(places):
     yield eight[:7] + ((ratio(1), place(-3, 8)),)
 
 
+def scales():
+    """Scales of all kinds, each with a name: even, settled and neither, with few and many levers."""
+    one = ratio(1)
+    yield "mixed", scale()
+    yield "even", Scale(levers(), [(0, ratio(3))] * 4, corners())
+    # The factors are 1 + x / 4 + y / 2, on three levers.
+    yield "settled", Scale(
+        [Lever(one), Lever(ratio(2), 0, one), Lever(one, 0, ratio(2))],
+        [(0, one), (1, ratio(4)), (2, ratio("3/2")), (1, ratio(4))], corners())
+    yield "two legs", Scale(chain(2, 3, "1/2"), [(0, one), (1, one)], LAYOUTS["two"])
+    yield "row", Scale(chain(3, 2, 3), [(0, one), (1, ratio(2)), (2, one)], LAYOUTS["three in a row"])
+    yield "chain", Scale(chain(6, "2/3", "3/4"), [(k, ratio(k + 1)) for k in range(6)], six_places())
+    yield "beam", Scale(chain(1), [(0, one), (0, one), (0, ratio(2))], LAYOUTS["triangle"])
+    yield "great", Scale(
+        [Lever(great(12, 1)), Lever(great(12, 2), 0, great(12, 3)), Lever(great(12, 4), 1, great(12, 5))],
+        [(k % 3, great(12, 6 + k)) for k in range(5)], LAYOUTS["great"][:5])
+
+
+def castings(seed=1, each=12):
+    """Castings of these scales with no letter, with one, with all eight, each with a name."""
+    lot = random.Random(seed)
+    for name, one in scales():
+        arms = list(arms_of(one))
+        for number in range(each):
+            letters = "abcdefgh"[:(0, 1, 2, 3, 8)[number % 5]]
+            chosen = lot.sample(arms, lot.randint(0, len(arms))) if letters else []
+            if number == 6:
+                chosen = arms
+            yield f"{name} {number}", Casting(one, [(arm, lot.choice(letters)) for arm in chosen])
+
+
+def exponents(casting, leg):
+    """The powers of the letters in the leg's factor, and its number, told by going up its levers."""
+    letters = dict(casting.rows)
+    lever, seat = casting.scale.legs[leg]
+    steps = [(("seat", leg), seat, 1)]
+    while lever is not None:
+        told = casting.scale.levers[lever]
+        steps.append((("out", lever), told.out, -1))
+        if told.above is not None:
+            steps.append((("inward", lever), told.inward, 1))
+        lever = told.above
+    powers = dict.fromkeys(sorted(set(letters.values())), 0)
+    number = Fraction(1)
+    for arm, size, power in steps:
+        if arm in letters:
+            powers[letters[arm]] += power
+        else:
+            number *= fraction(size) ** power
+    return powers, number
+
+
+def factors_with(casting, values):
+    """The factors as Fractions at values, a dict of Fractions or ratios."""
+    found = []
+    for leg in range(len(casting.scale)):
+        powers, size = exponents(casting, leg)
+        for letter, power in powers.items():
+            value = values[letter]
+            size *= (fraction(value) if isinstance(value, tuple) else Fraction(value)) ** power
+        found.append(size)
+    return found
+
+
+def some_values(casting, seed, many=4):
+    """Rows of values for all letters, each a tuple of couples."""
+    lot = random.Random(seed)
+    for _ in range(many):
+        yield tuple((one, ratio(Fraction(lot.randint(1, 9), lot.randint(1, 5)))) for one in casting.letters)
+
+
+def is_swap_by_words(places, numbers):
+    """Whether these whole numbers, one for each leg, are a swap."""
+    if len(numbers) != len(places) or not any(numbers) or sum(numbers) != 0:
+        return False
+    return all(sum(number * fraction(one[axis]) for number, one in zip(numbers, places)) == 0
+               for axis in (0, 1))
+
+
 def solve(columns, right):
     """The only solution of the sums of size * column = right, None if there is none or more."""
     rows = [[*row, end] for *row, end in zip(*columns, right)]
@@ -248,6 +340,32 @@ class Case(unittest.TestCase):
         values = tuple(vars(caught.exception).values())
         self.assertEqual(values, told)
         self.assertEqual([type(value) for value in values], [type(value) for value in told])
+
+    def takes_lists(self, call, *args, **named):
+        """Check that a call does with lists what it does with tuples, and neither changes nor keeps them.
+
+        Return what the call returns.
+        """
+        wanted = call(*args, **named)
+        lists = [deep_list(arg) for arg in args]
+        before = copy.deepcopy(lists)
+        found = call(*lists, **named)
+        self.assertEqual(found, wanted)
+        self.assertEqual(lists, before)
+        emptied(lists)
+        self.assertEqual(found, wanted)
+        return wanted
+
+    def told_apart(self, one, changes):
+        """Check == and != of an object, and of others with one attribute changed."""
+        kind = type(one)
+        self.alike(one, kind(**{name: getattr(one, name) for name in changes}))
+        for name in changes:
+            row = {part: getattr(one, part) for part in changes}
+            row[name] = changes[name]
+            self.unlike(one, kind(**row))
+        for thing in (None, 0, True, "a", (), [], tuple(getattr(one, name) for name in changes)):
+            self.unlike(one, thing)
 
     def unlike(self, one, other):
         """Check that == and != tell the two things apart, both ways."""

@@ -75,11 +75,54 @@ LISTED = {
         check_values(letters, values) power_in(monomial, letter) size_at(monomial, values)
         multiply(monomial, other) divide(monomial, other) Monomial(number, powers=())
     """,
+    "castings": """
+        monomial_of(casting, leg) scale_at(casting, values) fix_letter(casting, letter, size)
+        common_letters(casting) alike_legs(casting) Casting(scale, rows)
+    """,
+    "always": """
+        always_even(casting) always_settled(casting) always_even_fault(casting, told)
+        always_settled_fault(casting, told) spoiling_arms(scale, wish)
+        FailsEven(at_values, leg, other) FailsSettled(at_values, swap)
+    """,
+    "somewhere": """
+        even_somewhere(casting) somewhere_fault(casting, told) NeverEven(numbers, power)
+    """,
+    "stretches": """
+        check_stretches(casting, stretches) factor_range(casting, stretches, leg)
+        quotient_range(casting, stretches, leg, other) showing_range(casting, stretches, loads)
+        greatest_showing(casting, stretches, loads)
+        Ends(least, greatest, low_values, high_values) Most(showing, at_values, pushes)
+    """,
+    "within": """
+        even_within(casting, stretches) settled_within(casting, stretches)
+        outside_always(casting, stretches, factor, error) BeyondAlways(at_values, leg)
+    """,
+    "laying": """
+        check_lot(loads, lot) margins_of(places, own, loads, lot) tips_with(places, own, loads, lot)
+        beyond_side(places, loads, side) least_margins(places, own, loads)
+        any_order(places, own, loads) tipping_fault(places, own, loads, tipping)
+        Own(weight, place) Tipping(side, lot)
+    """,
+    "steady": """
+        least_own(places, loads, place) greatest_growth(places, own, loads)
+        greatest_further(places, own, loads, place) safe_places(places, own, loads, weight)
+        best_own(places, loads) best_fault(places, loads, best)
+        NoOwn(side, lot) BestOwn(weight, place, shares)
+    """,
+    "orders": """
+        some_moves(places, own, loads, start, goal, *, taking=False)
+        moves_fault(places, own, loads, start, goal, moves, *, taking=False)
+        stuck_fault(places, own, loads, start, goal, stuck, *, taking=False)
+        some_order(places, own, loads) orders_many(places, own, loads)
+        laid_before(places, own, loads) holding_lots(places, own, loads) Stuck(lots)
+    """,
 }
 # Classes that keep what they are given and check nothing.
 RESULTS = {
     "hulls": "Side", "skins": "Tips Range Piece", "settled": "Settled Unsettled",
-    "doubts": "Doubt", "even": "Uneven",
+    "doubts": "Doubt", "even": "Uneven", "always": "FailsEven FailsSettled",
+    "somewhere": "NeverEven", "stretches": "Ends Most", "within": "BeyondAlways",
+    "laying": "Tipping", "steady": "NoOwn BestOwn", "orders": "Stuck",
 }
 
 
@@ -105,6 +148,14 @@ class Interface(unittest.TestCase):
         for one in (Plain, Scale):
             self.assertIn("__len__", vars(one))
             self.assertIsInstance(vars(one)["factors"], property)
+        from wherelaid.castings import Casting
+        from wherelaid.laying import Own
+        self.assertIsInstance(vars(Casting)["letters"], property)
+        self.assertIsInstance(vars(Own)["as_load"], property)
+
+    def test_generators(self):
+        from wherelaid.orders import holding_lots
+        self.assertTrue(inspect.isgeneratorfunction(holding_lots))
 
     def test_results_keep_the_very_things(self):
         for file, names in RESULTS.items():

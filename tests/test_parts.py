@@ -1,10 +1,12 @@
 """What the modules share with each other and the interface does not list."""
 
+import random
 import unittest
 from fractions import Fraction
 from itertools import combinations
 
 from tests.helper import Case, LAYOUTS, fraction, height, place, ratio
+from wherelaid.diagonals import diagonal_of
 from wherelaid.lots import lots_of
 from wherelaid.planes import is_plane, plane_through
 from wherelaid.ratios import ascending, coprime_of
@@ -33,6 +35,38 @@ class Rows(Case):
         for many in range(7):
             for size in range(8):
                 self.assertEqual(lots_of(many, size), list(combinations(range(many), size)))
+
+
+def determinant(rows):
+    if not rows:
+        return 1
+    return sum((-1) ** at * rows[0][at] * determinant([row[:at] + row[at + 1:] for row in rows[1:]])
+               for at in range(len(rows)))
+
+
+def product_of(rows, others):
+    return [[sum(a * b for a, b in zip(row, column)) for column in zip(*others)] for row in rows]
+
+
+class Diagonals(Case):
+
+    def test_mixes_and_ways(self):
+        lot = random.Random(3)
+        for _ in range(150):
+            many, unknowns = lot.randint(1, 5), lot.randint(1, 5)
+            rows = [[lot.choice((0, 0, 2, 3, -4, 6, 9, -15, 10)) for _ in range(unknowns)] for _ in range(many)]
+            before = [list(row) for row in rows]
+            pivots, mixes, ways = diagonal_of(rows, unknowns)
+            self.assertEqual(rows, before)
+            want = [[pivots[k] if j == k else 0 for j in range(unknowns)] for k in range(many)]
+            self.assertEqual(product_of(product_of(mixes, rows), ways), want)
+            # Both can be undone in whole numbers.
+            self.assertIn(determinant(mixes), (1, -1))
+            self.assertIn(determinant(ways), (1, -1))
+            self.assertEqual(len(pivots), many)
+
+    def test_no_unknowns(self):
+        self.assertEqual(diagonal_of([[], []], 0), ([0, 0], [[1, 0], [0, 1]], []))
 
 
 class Shares(Case):

@@ -21,10 +21,15 @@ def arms_of(scale):
     return tuple(arms)
 
 
+def is_arm(scale, thing):
+    """Whether the thing is an arm of the scale."""
+    # True is equal to 1, so that to look among the arms would not be enough.
+    return is_couple(thing) and is_whole(thing[1]) and tuple(thing) in arms_of(scale)
+
+
 def check_arm(scale, arm):
     """Return the arm as a tuple, or raise NoArm."""
-    # True is equal to 1, so that to look among the arms would not be enough.
-    if not is_couple(arm) or not is_whole(arm[1]) or tuple(arm) not in arms_of(scale):
+    if not is_arm(scale, arm):
         raise NoArm(arm)
     return tuple(arm)
 

@@ -2,7 +2,7 @@
 
 from wherelaid.hulls import check_within
 from wherelaid.loads import centre_of
-from wherelaid.places import check_place, turn_place
+from wherelaid.places import check_place, is_point, turn_place
 from wherelaid.planes import is_plane, plane_through
 from wherelaid.ratios import (
     ZERO, compare, greatest_of, is_ratio, least_of, minus, negative, over, plus, times,
@@ -101,7 +101,7 @@ def doubt_fault(scale, told):
         return "size"
     if not _is_doubt_swap(scale, told.size, told.swap):
         return "swap"
-    if not _is_point(told.place) or told.place != _doubt_place(scale, told.swap):
+    if not is_point(told.place) or told.place != _doubt_place(scale, told.swap):
         return "place"
     return None if _is_middle_plane(scale, told.size, told.plane) else "plane"
 
@@ -111,10 +111,6 @@ def _is_doubt_swap(scale, size, swap):
     if size == ZERO:
         return swap is None
     return is_swap_of(scale.places, swap) and _doubt_of(scale, swap) == size
-
-
-def _is_point(thing):
-    return isinstance(thing, tuple) and all([is_ratio(part) for part in thing])
 
 
 def _is_middle_plane(scale, size, plane):

@@ -53,13 +53,17 @@ def best_factor(scale):
     return (over(both, (2, 1)), over(minus(greatest, least), both))
 
 
-def outside_error(scale, factor, error):
-    """Return the first leg whose factor is beyond the error from the factor told, or None."""
+def error_bounds(factor, error):
+    """Return the least and the greatest factor that err no more; BadSize, then BadError."""
     check_factor(factor)
     if not is_ratio(error) or error[0] < 0:
         raise BadError(error)
-    least = times(minus(ONE, error), factor)
-    greatest = times(plus(ONE, error), factor)
+    return (times(minus(ONE, error), factor), times(plus(ONE, error), factor))
+
+
+def outside_error(scale, factor, error):
+    """Return the first leg whose factor is beyond the error from the factor told, or None."""
+    least, greatest = error_bounds(factor, error)
     for leg, own in enumerate(scale.factors):
         if compare(own, least) < 0 or compare(own, greatest) > 0:
             return leg

@@ -1,7 +1,8 @@
 """Letters for unknown ratios, their values, and monomials of them: points 4.1 and 4.2."""
 
 from wherelaid.errors import BadMonomial, BadValues
-from wherelaid.ratios import ONE, is_ratio, is_whole, over, times
+from wherelaid.powers import raised
+from wherelaid.ratios import is_ratio, is_whole, over, times
 from wherelaid.sequences import is_couple, is_sequence
 
 LETTERS = ("a", "b", "c", "d", "e", "f", "g", "h")
@@ -87,16 +88,8 @@ def size_at(monomial, values):
     size = monomial.number
     # Both are ascending by letter, with the same letters.
     for letter_power, letter_value in zip(monomial.powers, checked):
-        size = times(size, _raised(letter_value[1], letter_power[1]))
+        size = times(size, raised(letter_value[1], letter_power[1]))
     return size
-
-
-def _raised(value, power):
-    """Return the value to a power that may be below 0."""
-    size = ONE
-    for _ in range(abs(power)):
-        size = times(size, value)
-    return over(ONE, size) if power < 0 else size
 
 
 def multiply(monomial, other):

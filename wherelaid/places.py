@@ -1,7 +1,7 @@
 """Places, and how they are checked and led along: points 1.3, 1.4 and `check_leg` of 1.6."""
 
 from wherelaid.errors import BadPlace, BadPlaces, NoLeg
-from wherelaid.ratios import ZERO, is_coordinate, is_whole, minus, negative, plus, times
+from wherelaid.ratios import ZERO, is_coordinate, is_ratio, is_whole, minus, negative, plus, times
 from wherelaid.sequences import is_couple, is_sequence
 
 LEAST_LEGS = 2
@@ -11,6 +11,11 @@ MOST_LEGS = 6
 def is_place(thing):
     """Whether the thing is a sequence of two coordinates."""
     return is_couple(thing) and is_coordinate(thing[0]) and is_coordinate(thing[1])
+
+
+def is_point(thing):
+    """Whether the thing is a tuple of two ratios, of any size."""
+    return isinstance(thing, tuple) and len(thing) == 2 and all([is_ratio(part) for part in thing])
 
 
 def check_place(place):
