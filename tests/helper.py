@@ -266,6 +266,26 @@ def is_swap_by_words(places, numbers):
                for axis in (0, 1))
 
 
+def spots(places, seed, many=8):
+    """Places within: at legs, on the ways between two legs, and means of three and of all."""
+    lot = random.Random(seed)
+    for number in range(many):
+        size = (1, 2, 3, len(places))[number % 4]
+        chosen = lot.sample(places, min(size, len(places)))
+        shares = [lot.randint(1, 3) for _ in chosen]
+        yield tuple(ratio(sum(fraction(one[axis]) * share for one, share in zip(chosen, shares)) / sum(shares))
+                    for axis in (0, 1))
+
+
+def small_layouts():
+    """The names and places of the layouts whose coordinates are no great numbers."""
+    return [(name, places) for name, places in LAYOUTS.items() if name not in ("great", "far")]
+
+
+def plus_rows(row, other):
+    return sum(fraction(one) * fraction(two) for one, two in zip(row, other))
+
+
 def solve(columns, right):
     """The only solution of the sums of size * column = right, None if there is none or more."""
     rows = [[*row, end] for *row, end in zip(*columns, right)]

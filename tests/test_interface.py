@@ -116,13 +116,42 @@ LISTED = {
         some_order(places, own, loads) orders_many(places, own, loads)
         laid_before(places, own, loads) holding_lots(places, own, loads) Stuck(lots)
     """,
+    "fits": "check_tests(places, tests) tests_fault(scale, tests)",
+    "told": "told_by(places, tests) Told(sure, amounts, fitting, others) Clash(amounts)",
+    "plans": """
+        check_plan(places, plan) tells(places, plan, row) tells_fault(places, plan, row, told)
+        sure_legs(places, plan) Sure(amounts) Alike(first, second, first_pushes, second_pushes)
+    """,
+    "evenplans": """
+        even_plan(places, plan) masked_fault(places, plan, told) Masked(unlike, pushes)
+    """,
+    "leasttests": "least_tests(places, pool, goal)",
+    "hidden": """
+        hidden_legs(places) free_ways(scale, leg) factor_left(scale, tests, leg) Left(low, high)
+    """,
+    "cores": """
+        shows_at(scale, leg) showing_legs(scale) core_of(scale) unlike_at(scale, other)
+        Shows(place, low, high)
+    """,
+    "marks": """
+        check_ties(count, ties) blocks_of(count, ties) sure_axles(count, ties)
+        sure_sum(count, ties, low, high) trail_fault(count, ties, low, high, trail)
+        unsure_fault(count, ties, low, high, unsure) needless_ties(count, ties)
+        fewest_ties(count, ties, sums) Trail(links) Unsure(one, other)
+    """,
+    "carts": """
+        stand_at(cart, length, shift) stops_of(cart, length) sure_lengths(cart)
+        Cart(axles, tread=(0, 1))
+    """,
 }
 # Classes that keep what they are given and check nothing.
 RESULTS = {
     "hulls": "Side", "skins": "Tips Range Piece", "settled": "Settled Unsettled",
     "doubts": "Doubt", "even": "Uneven", "always": "FailsEven FailsSettled",
     "somewhere": "NeverEven", "stretches": "Ends Most", "within": "BeyondAlways",
-    "laying": "Tipping", "steady": "NoOwn BestOwn", "orders": "Stuck",
+    "laying": "Tipping", "steady": "NoOwn BestOwn", "orders": "Stuck", "told": "Told Clash",
+    "plans": "Sure Alike", "evenplans": "Masked", "hidden": "Left", "cores": "Shows",
+    "marks": "Trail Unsure",
 }
 
 
@@ -152,6 +181,11 @@ class Interface(unittest.TestCase):
         from wherelaid.laying import Own
         self.assertIsInstance(vars(Casting)["letters"], property)
         self.assertIsInstance(vars(Own)["as_load"], property)
+        from wherelaid.carts import Cart
+        self.assertIsInstance(vars(Cart)["span"], property)
+        for name, told in (("mirrored", "(self)"), ("shifted", "(self, amount)"),
+                           ("coupled", "(self, other, distance)"), ("__len__", "(self)")):
+            self.assertEqual(str(inspect.signature(vars(Cart)[name])), told)
 
     def test_generators(self):
         from wherelaid.orders import holding_lots

@@ -5,8 +5,10 @@ import unittest
 from fractions import Fraction
 from itertools import combinations
 
-from tests.helper import Case, LAYOUTS, fraction, height, place, ratio
+from tests.helper import Case, LAYOUTS, fraction, height, place, plus_rows, ratio
+from wherelaid.cones import shares_or_bar
 from wherelaid.diagonals import diagonal_of
+from wherelaid.linear import amounts_or_way, determinant_of
 from wherelaid.lots import lots_of
 from wherelaid.planes import is_plane, plane_through
 from wherelaid.ratios import ascending, coprime_of
@@ -38,10 +40,22 @@ class Rows(Case):
 
 
 def determinant(rows):
-    if not rows:
-        return 1
-    return sum((-1) ** at * rows[0][at] * determinant([row[:at] + row[at + 1:] for row in rows[1:]])
-               for at in range(len(rows)))
+    """The determinant of numbers, by taking rows from each other."""
+    left = [[Fraction(part) for part in row] for row in rows]
+    size = Fraction(1)
+    for at in range(len(left)):
+        lead = next((row for row in left[at:] if row[at]), None)
+        if lead is None:
+            return 0
+        if lead is not left[at]:
+            size = -size
+            where = at + [row is lead for row in left[at:]].index(True)
+            left[at], left[where] = left[where], left[at]
+        size *= lead[at]
+        for number in range(at + 1, len(left)):
+            part = left[number][at] / lead[at]
+            left[number] = [one - part * two for one, two in zip(left[number], lead)]
+    return size
 
 
 def product_of(rows, others):
@@ -67,6 +81,65 @@ class Diagonals(Case):
 
     def test_no_unknowns(self):
         self.assertEqual(diagonal_of([[], []], 0), ([0, 0], [[1, 0], [0, 1]], []))
+
+
+class RowsOfRatios(Case):
+
+    def rows(self, lot, many, width):
+        return [tuple(ratio(Fraction(lot.choice((0, 0, 1, 2, -1, -3)), lot.choice((1, 1, 2)))) for _ in range(width))
+                for _ in range(many)]
+
+    def test_amounts_or_way(self):
+        lot = random.Random(8)
+        kinds = [0, 0]
+        for _ in range(200):
+            width = lot.randint(1, 6)
+            rows = self.rows(lot, lot.randint(0, 6), width)
+            goal = self.rows(lot, 1, width)[0]
+            if rows and lot.random() < 0.4:
+                goal = tuple(ratio(sum((k - 2) * fraction(row[at]) for k, row in enumerate(rows)))
+                             for at in range(width))
+            amounts, way = amounts_or_way(rows, goal)
+            kinds[amounts is None] += 1
+            if way is None:
+                self.tuples(amounts)
+                for at in range(width):
+                    self.assertEqual(plus_rows(amounts, [row[at] for row in rows]), fraction(goal[at]))
+            else:
+                self.assertIsNone(amounts)
+                self.tuples(way)
+                self.assertEqual([plus_rows(way, row) for row in rows], [0] * len(rows))
+                self.assertNotEqual(plus_rows(way, goal), 0)
+        self.assertTrue(min(kinds) > 30)
+
+    def test_shares_or_bar(self):
+        lot = random.Random(9)
+        kinds = [0, 0]
+        for _ in range(300):
+            width = lot.randint(0, 5)
+            columns = self.rows(lot, lot.randint(1, 7), width)
+            goal = self.rows(lot, 1, width)[0]
+            shares, bar = shares_or_bar(columns, goal)
+            kinds[shares is None] += 1
+            if bar is None:
+                self.tuples(shares)
+                self.assertTrue(all(share[0] >= 0 for share in shares))
+                self.assertEqual(len(shares), len(columns))
+                for at in range(width):
+                    self.assertEqual(plus_rows(shares, [column[at] for column in columns]), fraction(goal[at]))
+            else:
+                self.assertIsNone(shares)
+                self.assertEqual(len(bar), width)
+                self.assertTrue(all(plus_rows(bar, column) >= 0 for column in columns))
+                self.assertLess(plus_rows(bar, goal), 0)
+        self.assertTrue(min(kinds) > 50)
+
+    def test_determinants(self):
+        lot = random.Random(10)
+        for _ in range(200):
+            many = lot.randint(0, 6)
+            rows = [[lot.choice((0, 0, 1, 2, -3, 7)) for _ in range(many)] for _ in range(many)]
+            self.assertEqual(determinant_of(rows), determinant(rows))
 
 
 class Shares(Case):

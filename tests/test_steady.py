@@ -354,6 +354,7 @@ class Judging(Case):
         for shares in NOT_SEQUENCES + (
                 (), [one, three], (three, one), (one,), (one, one), (one, three, three), (one, 3), (one, (3,)),
                 (one, None), ((1, ratio("1/4")), (4, ratio("1/4"))), ((-3, ratio("1/4")), three),
+                ((-1, ratio("1/4")), one),
                 ((True, ratio("1/4")), three), (one, (3, (2, 8))), (one, (3, ratio("1/5"))), (one, (3, 1)),
                 ((0, ratio(0)), one, three), (one, (3, (-1, 4))), ((1, ratio("1/2")), (3, ratio("1/2"))),
                 ((0, ratio("1/4")), (1, ratio("1/4"))), ((0, ratio("1/2")), (2, ratio("1/4"))),

@@ -65,8 +65,6 @@ def lot_among(loads, lot):
 
 def is_lot(loads, thing):
     """Whether the thing is an ascending tuple of unlike numbers of loads."""
-    if not isinstance(thing, tuple):
-        return False
     try:
         return lot_among(loads, thing) == thing
     except BadLot:

@@ -96,6 +96,13 @@ def lean_rows(places, loads):
     return tuple(ascending(found))
 
 
+def only_pushes(places, point):
+    """Return the pushes for a weight 1 at a point within if only one tuple fits, else None."""
+    # All pushes that fit are means of lean ones.
+    lean = lean_rows(places, ((ONE, point),))
+    return lean[0] if len(lean) == 1 else None
+
+
 def _shares_above(places, lot, point):
     """Return the shares, all above 0, with which the legs of the lot make up the point, or None."""
     corners = [places[leg] for leg in lot]
