@@ -17,6 +17,7 @@ METHODS = {
     "__init__", "__eq__", "__repr__", "__str__", "__len__", "__enter__", "__exit__", "__call__",
     "__iter__",
 }
+COMPREHENSIONS = (ast.ListComp, ast.SetComp, ast.DictComp, ast.GeneratorExp)
 BARRED = (ast.AsyncFunctionDef, ast.Await, ast.AsyncFor, ast.AsyncWith, ast.Div, ast.Global)
 
 
@@ -30,6 +31,30 @@ def nodes(kind):
         for node in ast.walk(tree):
             if isinstance(node, kind):
                 yield f"{path.name}:{getattr(node, 'lineno', 0)}", node
+
+
+def stored(node):
+    """The names that are assigned, but for those of comprehensions."""
+    found = set()
+    for part in ast.iter_child_nodes(node):
+        if not isinstance(part, COMPREHENSIONS):
+            if isinstance(part, ast.Name) and isinstance(part.ctx, ast.Store):
+                found.add(part.id)
+            found |= stored(part)
+    return found
+
+
+def nested(node, inside, outer):
+    """The names that comprehensions within comprehensions assign; those further out must be unlike."""
+    for part in ast.iter_child_nodes(node):
+        names = set()
+        if isinstance(part, COMPREHENSIONS):
+            names = {name.id for loop in part.generators for name in ast.walk(loop.target)
+                     if isinstance(name, ast.Name)}
+            if inside:
+                assert not names & outer, names
+                yield from names
+        yield from nested(part, inside or bool(names), outer | names)
 
 
 class Form(unittest.TestCase):
@@ -101,6 +126,13 @@ class Form(unittest.TestCase):
                     self.assertNotIn(node.arg, bound, path)
                 if isinstance(node, ast.Name) and isinstance(node.ctx, ast.Store):
                     self.assertNotIn(node.id, bound, path)
+
+    def test_names_in_nested_comprehensions(self):
+        for at, function in nodes(ast.FunctionDef):
+            taken = {part.arg for part in ast.walk(function.args) if isinstance(part, ast.arg)}
+            taken |= stored(function)
+            for name in nested(function, False, set()):
+                self.assertNotIn(name, taken, at)
 
     def test_strings(self):
         for at, node in nodes(ast.Constant):

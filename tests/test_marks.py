@@ -262,6 +262,8 @@ class Fewest(Case):
         self.assertEqual(len(self.check(4, star, ((0, 1), (2, 3)))), 4)
         longer = star + ((0, 1), (2, 3))
         self.assertEqual(self.check(4, longer, ((0, 1), (2, 3))), (4, 5))
+        # Each sum alone would take the mark 4 or 8, both together the mark 8 alone.
+        self.assertEqual(self.check(8, ((0, 4), (1, 4), (0, 8), (1, 8), (2, 8)), ((0, 1), (0, 2))), (2, 3, 4))
         # Two sums on one long way, and one apart.
         line = tuple((k, k + 1) for k in range(8))
         self.assertEqual(len(self.check(8, line, ((0, 3), (2, 5), (7, 8)))), 6)

@@ -1,6 +1,7 @@
 """Points 4.7 and 4.8: castings that are even at some values."""
 
 import random
+import time
 import unittest
 from fractions import Fraction
 from math import prod
@@ -10,7 +11,7 @@ from tests.helper import (
     ratio, scales,
 )
 from wherelaid.castings import Casting
-from wherelaid.powers import power_of, raised, root_of
+from wherelaid.powers import power_of, raised, root_of_product
 from wherelaid.scales import Lever, Scale
 from wherelaid.somewhere import NeverEven, even_somewhere, somewhere_fault
 
@@ -237,14 +238,47 @@ class Powers(Case):
         for size in ("1", "2/3", 7, "1/9", Fraction(10 ** 40 + 1, 10 ** 41), 2 ** 64, 2 ** 64 - 1):
             for degree in (1, 2, 3, 5, 12, 100):
                 power = ratio(Fraction(size) ** degree)
-                self.assertEqual(root_of(power, degree), ratio(size))
+                self.assertEqual(root_of_product([power], [1], degree), ratio(size))
+                self.assertEqual(root_of_product([power], [-1], degree), ratio(1 / Fraction(size)))
+                self.assertEqual(root_of_product([ratio(size)], [-degree], degree), ratio(1 / Fraction(size)))
                 if degree > 1:
-                    self.assertIsNone(root_of((power[0] + 1, 1), degree))
-                    self.assertIsNone(root_of((1, power[0] + 1), degree))
-                    self.assertIsNone(root_of((power[0] ** 2 * 2, 1), 2 * degree))
-        self.assertEqual(root_of((4, 9), 2), (2, 3))
-        self.assertIsNone(root_of((4, 3), 2))
-        self.assertIsNone(root_of((3, 4), 2))
+                    self.assertIsNone(root_of_product([(power[0] + 1, 1)], [1], degree))
+                    self.assertIsNone(root_of_product([(1, power[0] + 1)], [1], degree))
+                    self.assertIsNone(root_of_product([(power[0] ** 2 * 2, 1)], [1], 2 * degree))
+        self.assertEqual(root_of_product([(4, 9)], [1], 2), (2, 3))
+        self.assertIsNone(root_of_product([(4, 3)], [1], 2))
+        self.assertIsNone(root_of_product([(3, 4)], [1], 2))
+        self.assertEqual(root_of_product([], [], 2), (1, 1))
+        self.assertEqual(root_of_product([(6, 1), (10, 3), (5, 9)], [1, -1, 1], 0), (1, 1))
+        self.assertIsNone(root_of_product([(6, 1), (10, 3)], [1, 1], 0))
+
+    def test_roots_of_products(self):
+        lot = random.Random(20)
+        kinds = [0, 0]
+        for _ in range(300):
+            sizes = [Fraction(lot.choice((1, 2, 4, 6, 8, 12, 27, 36)), lot.choice((1, 3, 9, 4, 5))) for _ in range(3)]
+            numbers = [lot.randint(-3, 3) for _ in sizes]
+            degree = lot.choice((0, 1, 2, 3, 4, 6))
+            found = root_of_product([ratio(size) for size in sizes], numbers, degree)
+            whole = prod([size ** number for size, number in zip(sizes, numbers)], start=Fraction(1))
+            primes = [*factored(whole.numerator).values(), *factored(whole.denominator).values()]
+            kinds[found is None] += 1
+            if degree == 0:
+                self.assertEqual(found, (1, 1) if whole == 1 else None)
+            elif any(power % degree for power in primes):
+                self.assertIsNone(found)
+            else:
+                self.assertEqual(fraction(found) ** degree, whole)
+                self.assertEqual(found, ratio(fraction(found)))
+        self.assertTrue(min(kinds) > 50)
+
+    def test_great_powers_are_judged_at_once(self):
+        made = powered((Fraction(10 ** 12 - 11, 10 ** 12), Fraction(10 ** 12, 10 ** 12 - 39)), (0, 0))
+        started = time.process_time()
+        for numbers, power in (((1000, -1000), 7), ((999, -999), 2), ((-1000, 1000), 999)):
+            self.assertIsNone(somewhere_fault(made, NeverEven(numbers, power)))
+        self.assertEqual(somewhere_fault(made, NeverEven((1000, -1000), 2)), "root")
+        self.assertLess(time.process_time() - started, 2)
 
 
 if __name__ == "__main__":

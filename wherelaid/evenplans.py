@@ -56,8 +56,11 @@ def flat_rows(lean):
     first = [choices[0] for choices in whole]
     size = determinant_of(first)
     for rows in _all_choices(whole):
-        if determinant_of(rows) * size <= 0:
-            return _flat_between(first, rows)
+        other = determinant_of(rows)
+        if other == 0:
+            return rows
+        if size * other < 0:
+            return _flat_before(rows, first)
     return None
 
 
@@ -69,23 +72,15 @@ def _all_choices(choices):
     return found
 
 
-def _flat_between(rows, goals):
-    """Return rows with the determinant 0 on the way from the rows to the goals, one by one.
-
-    The determinants of both do not have one sign.
-    """
-    for at, goal in enumerate(goals):
-        size = determinant_of(rows)
-        changed = [*rows[:at], goal, *rows[at + 1:]]
-        other = determinant_of(changed)
-        if size == 0:
-            return rows
-        if size * other < 0:
-            # The determinant of the mix is the sum of both, each times the other one's size.
-            mix = [abs(other) * one + abs(size) * two for one, two in zip(rows[at], goal)]
-            return [*rows[:at], mix, *rows[at + 1:]]
-        rows = changed
-    return rows
+def _flat_before(rows, first):
+    """Return rows with the determinant 0, for the first choice whose determinant has another sign."""
+    # With its last row that is not the first one at its place put back it is an earlier choice.
+    at = [number for number in range(len(rows)) if rows[number] != first[number]][-1]
+    size = abs(determinant_of(rows))
+    other = abs(determinant_of([*rows[:at], first[at], *rows[at + 1:]]))
+    # The determinant of the mix is the sum of both, each times the size of the other one.
+    mix = [other * one + size * two for one, two in zip(rows[at], first[at])]
+    return [*rows[:at], mix, *rows[at + 1:]]
 
 
 def _with_sum_one(row):

@@ -169,19 +169,19 @@ def laid_before(places, own, loads):
     there = _orders_to(holding)
     whole = tuple(range(loads_many))
     if whole not in there:
-        raise NoOrder(tuple(list(there)))
+        raise NoOrder(tuple(there))
     # The lots of some order: those that can be come to, and from which all loads can be laid.
     kept = {whole: True}
     for lot in holding[::-1]:
         if lot in there and any([goal in kept for goal in _goals_of(lot, loads_many, False)]):
             kept[lot] = True
     pairs = [(one, other) for one in whole for other in whole if one != other]
-    return tuple([pair for pair in pairs if all([_has_first(lot, pair) for lot in list(kept)])])
+    return tuple([pair for pair in pairs if _keep_order(list(kept), pair)])
 
 
-def _has_first(lot, pair):
-    """Whether the lot has the first one of the pair, or lacks the second one."""
-    return pair[0] in lot or pair[1] not in lot
+def _keep_order(lots, pair):
+    """Whether each of the lots has the first one of the pair, or lacks the second one."""
+    return all([pair[0] in lot or pair[1] not in lot for lot in lots])
 
 
 def holding_lots(places, own, loads):

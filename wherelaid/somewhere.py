@@ -3,8 +3,8 @@
 from wherelaid.castings import factors_at, monomials_of, values_or_none
 from wherelaid.diagonals import diagonal_of
 from wherelaid.monomials import power_in
-from wherelaid.powers import raised, root_of
-from wherelaid.ratios import ONE, is_whole, over, times
+from wherelaid.powers import raised, root_of_product
+from wherelaid.ratios import ONE, is_whole, times
 from wherelaid.sequences import is_sequence
 
 
@@ -30,10 +30,9 @@ def even_somewhere(casting):
     pivots, mixes, ways = diagonal_of(rows, len(letters))
     roots = []
     for pivot, mix in zip(pivots, mixes):
-        numbers = _summed_to_zero(mix, abs(pivot))
-        root = _root_for(_number_of(monomials, _summed_to_zero(mix, 0)), pivot)
+        root = _root_for(monomials, _summed_to_zero(mix, 0), pivot)
         if root is None:
-            return NeverEven(numbers, abs(pivot))
+            return NeverEven(_summed_to_zero(mix, abs(pivot)), abs(pivot))
         roots.append(root)
     return tuple([(letter, _mixed(roots, way)) for letter, way in zip(letters, ways)])
 
@@ -49,19 +48,11 @@ def _summed_to_zero(mix, power):
     return (-sum(mix), *mix)
 
 
-def _number_of(monomials, numbers):
-    """Return the number of the product of monomial ** number."""
-    product = ONE
-    for monomial, number in zip(monomials, numbers):
-        product = times(product, raised(monomial.number, number))
-    return product
-
-
-def _root_for(product, pivot):
-    """Return the ratio whose power by the pivot makes the product 1, or None if there is none."""
-    if pivot == 0:
-        return ONE if product == ONE else None
-    return root_of(over(ONE, product) if pivot > 0 else product, abs(pivot))
+def _root_for(monomials, numbers, pivot):
+    """Return the ratio whose power by the pivot makes the product of monomial ** number 1, or None."""
+    sizes = [monomial.number for monomial in monomials]
+    wanted = [-number if pivot > 0 else number for number in numbers]
+    return root_of_product(sizes, wanted, abs(pivot))
 
 
 def _mixed(roots, way):
@@ -96,7 +87,7 @@ def _certificate_fault(monomials, letters, told):
         whole = sum([number * power for number, power in zip(told.numbers, powers)])
         if not _is_multiple(whole, told.power):
             return "letters"
-    return None if _root_for(_number_of(monomials, told.numbers), told.power) is None else "root"
+    return None if _root_for(monomials, told.numbers, told.power) is None else "root"
 
 
 def _is_multiple(number, power):

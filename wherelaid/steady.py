@@ -15,7 +15,7 @@ from wherelaid.ratios import (
 from wherelaid.sequences import is_couple
 from wherelaid.shares import shares_at
 
-ORIGIN = (ZERO, ZERO)
+ORIGIN = ((0, 1), (0, 1))
 
 
 class NoOwn:
