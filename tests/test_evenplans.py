@@ -8,7 +8,7 @@ from math import prod
 
 from tests.helper import (
     Case, LAYOUTS, NOT_ABOVE_ZERO, NOT_SEQUENCES, corners, fits, lean_by_solving, place, plus_rows,
-    ratio, small_layouts, spots,
+    small_layouts, spots,
 )
 from tests.test_fits import ONE
 from tests.test_parts import determinant

@@ -1,7 +1,7 @@
 """Loads laid on a plate with an own weight, and whether any order holds: points 5.1 to 5.5."""
 
-from wherelaid.errors import BadLot, BadOwn, BeyondSide, NoSide
-from wherelaid.hulls import check_within, height_over, lies_beyond, sides_around
+from wherelaid.errors import BadLot, BadOwn, NoSide
+from wherelaid.hulls import first_beyond, height_over, lies_beyond, sides_around
 from wherelaid.loads import check_loads
 from wherelaid.places import check_places, is_place
 from wherelaid.ratios import is_weight, is_whole, minus, sum_of, times
@@ -41,10 +41,8 @@ class Tipping:
 
 def check_own(places, own):
     """Return the own weight, or raise BadOwn if it does not lie within the places."""
-    try:
-        check_within(places, own.place)
-    except BeyondSide:
-        raise BadOwn("hull") from None
+    if first_beyond(places, own.place) is not None:
+        raise BadOwn("hull")
     return own
 
 
