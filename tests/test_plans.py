@@ -10,8 +10,12 @@ from tests.helper import (
 )
 from tests.test_fits import ONE
 from wherelaid.errors import BadPlaces, BadPlan, BadRow
+from wherelaid.hidden import hidden_legs
 from wherelaid.hulls import one_way
+from wherelaid.leasttests import least_tests
+from wherelaid.places import mirror_place, shift_place, stretch_place, turn_place
 from wherelaid.plans import Alike, Sure, check_plan, sure_legs, tells, tells_fault
+from wherelaid.told import told_by
 
 ZERO = ratio(0)
 MIDDLE = place(2, 1)
@@ -155,6 +159,26 @@ class Telling(Case):
         four = (place(0, 0), place(1, 0), place(4, 0), place(13, 0))
         for number in range(1, 13):
             self.assertIs(type(self.check(four, (place(number, 0),), unit(4, 0))), Alike)
+
+    def test_led_along(self):
+        size, by = ratio("3/2"), place("-7/3", 5)
+        leads = (lambda one: shift_place(one, by), turn_place, mirror_place, lambda one: stretch_place(one, size))
+        for name, places in small_layouts():
+            plan = tuple(spots(places, name, 6))
+            pool = tuple(places) + plan[:1]
+            tests = tuple((where, ratio(k + 1)) for k, where in enumerate(plan))
+            for lead in leads:
+                led = [tuple(lead(one) for one in row) for row in (places, plan, pool)]
+                self.assertEqual(sure_legs(led[0], led[1]), sure_legs(places, plan), name)
+                row = tells(places, plan, unit(len(places), 0))
+                self.assertEqual(type(tells(led[0], led[1], unit(len(places), 0))), type(row))
+                self.assertIsNone(tells_fault(led[0], led[1], unit(len(places), 0), row))
+                self.assertEqual(least_tests(led[0], led[2], "all"), least_tests(places, pool, "all"))
+                self.assertEqual(hidden_legs(led[0]), hidden_legs(places))
+                told = told_by(places, tests)
+                other = told_by(led[0], [(lead(where), showing) for where, showing in tests])
+                self.assertEqual(type(other), type(told))
+                self.assertEqual(getattr(other, "sure", None), getattr(told, "sure", None))
 
     def test_great_numbers(self):
         places = LAYOUTS["great"]
