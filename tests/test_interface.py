@@ -143,6 +143,48 @@ LISTED = {
         stand_at(cart, length, shift) stops_of(cart, length) sure_lengths(cart)
         Cart(axles, tread=(0, 1))
     """,
+    "cartbounds": """
+        check_tellings(count, tellings) tellings_of(count, ties, showings, slack)
+        fitting_weights(count, tellings) ring_fault(count, tellings, no_cart)
+        sum_bounds(count, tellings, low, high) weights_of_sum(count, tellings, low, high, amount)
+        limit_verdict(count, tellings, low, high, limit) next_tie(count, tellings, ties)
+        needless_tellings(count, tellings) suspect_tellings(count, tellings)
+        NoCart(ring) SumBounds(least, most, least_trail, most_trail)
+    """,
+    "groups": """
+        check_showings(groups, showings) showings_of(groups, pushes) borne_load(groups, pushes)
+        Groups(scale, rows)
+    """,
+    "sums": """
+        totals_that_fit(groups, showings) pushes_of_total(groups, showings, total)
+        total_told(groups, showings) sure_total(groups) spread_of(groups)
+        Totals(least, greatest, light, heavy) Spread(quotient, group, low, high)
+    """,
+    "found": """
+        centre_corners(groups, showings) pushes_of_centre(groups, showings, place)
+        centre_range(groups, showings, direction) found_load(groups, showings)
+        alike_loads(groups, showings) sure_along(groups, direction)
+        CentreRange(least, greatest, low_pushes, high_pushes) OtherLoads(one, other)
+    """,
+    "groupings": """
+        all_groupings(scale, many) best_groupings(scale, many)
+        groupings_along(scale, many, direction) BestGroupings(quotient, groupings)
+    """,
+    "loadsets": """
+        mix_range(groups, loads, weights) showing_corners(groups, loads)
+        pushes_that_show(groups, loads, showings) lots_that_fit(groups, pool, showings)
+        sure_loads(groups, pool, showings)
+        MixRange(least, greatest, low_pushes, high_pushes) SureLoads(always, never)
+    """,
+    "shown": """
+        shown_of(showing, step) weights_behind(scale, step, shown)
+        weights_at(scale, place, step, shown) totals_behind(groups, step, rows)
+        shown_range(scale, loads, step) sure_shown(scale, weight, step) Behind(least, end)
+    """,
+    "inparts": """
+        parts_range(showing, step, many) whole_range(step, rows)
+        parts_for(showing, step, many, total)
+    """,
 }
 # Classes that keep what they are given and check nothing.
 RESULTS = {
@@ -151,8 +193,27 @@ RESULTS = {
     "somewhere": "NeverEven", "stretches": "Ends Most", "within": "BeyondAlways",
     "laying": "Tipping", "steady": "NoOwn BestOwn", "orders": "Stuck", "told": "Told Clash",
     "plans": "Sure Alike", "evenplans": "Masked", "hidden": "Left", "cores": "Shows",
-    "marks": "Trail Unsure",
+    "marks": "Trail Unsure", "cartbounds": "NoCart SumBounds", "sums": "Totals Spread",
+    "found": "CentreRange OtherLoads", "groupings": "BestGroupings",
+    "loadsets": "MixRange SureLoads", "shown": "Behind",
 }
+# The methods, len and iteration among them, and the properties that are listed for classes.
+METHODS = {
+    "scales.Scale": "__len__(self)", "scales.Plain": "__len__(self)",
+    "carts.Cart": "mirrored(self) shifted(self, amount) coupled(self, other, distance) __len__(self)",
+    "groups.Groups": "group_of(self, leg) __len__(self) __iter__(self)",
+}
+PROPERTIES = {
+    "scales.Scale": "factors", "scales.Plain": "factors", "castings.Casting": "letters",
+    "laying.Own": "as_load", "carts.Cart": "span", "groups.Groups": "factors",
+}
+GENERATORS = ("orders.holding_lots", "groupings.all_groupings")
+
+
+def named(name):
+    """What stands under a name such as "scales.Scale"."""
+    file, word = name.split(".")
+    return getattr(importlib.import_module(f"wherelaid.{file}"), word)
 
 
 class Interface(unittest.TestCase):
@@ -173,23 +234,18 @@ class Interface(unittest.TestCase):
                 one = getattr(module, name)
                 self.assertIn("__eq__", vars(one))
                 self.assertEqual(one.__bases__, (object,))
-        from wherelaid.scales import Plain, Scale
-        for one in (Plain, Scale):
-            self.assertIn("__len__", vars(one))
-            self.assertIsInstance(vars(one)["factors"], property)
-        from wherelaid.castings import Casting
-        from wherelaid.laying import Own
-        self.assertIsInstance(vars(Casting)["letters"], property)
-        self.assertIsInstance(vars(Own)["as_load"], property)
-        from wherelaid.carts import Cart
-        self.assertIsInstance(vars(Cart)["span"], property)
-        for name, told in (("mirrored", "(self)"), ("shifted", "(self, amount)"),
-                           ("coupled", "(self, other, distance)"), ("__len__", "(self)")):
-            self.assertEqual(str(inspect.signature(vars(Cart)[name])), told)
+
+    def test_methods_and_properties(self):
+        for name, text in METHODS.items():
+            for method, told in re.findall(r"(\w+)(\([^)]*\))", text):
+                self.assertEqual(str(inspect.signature(vars(named(name))[method])), told, name)
+        for name, text in PROPERTIES.items():
+            for word in text.split():
+                self.assertIsInstance(vars(named(name))[word], property, name)
 
     def test_generators(self):
-        from wherelaid.orders import holding_lots
-        self.assertTrue(inspect.isgeneratorfunction(holding_lots))
+        for name in GENERATORS:
+            self.assertTrue(inspect.isgeneratorfunction(named(name)), name)
 
     def test_results_keep_the_very_things(self):
         for file, names in RESULTS.items():
@@ -203,6 +259,21 @@ class Interface(unittest.TestCase):
                 for thing, word in zip(things, wanted):
                     self.assertIs(getattr(made, word), thing)
                     self.assertIs(getattr(one(**dict(zip(wanted, things))), word), thing)
+
+    def test_results_are_equal_by_class_and_things(self):
+        classes = [named(f"{file}.{name}") for file, names in RESULTS.items() for name in names.split()]
+        for one in classes:
+            many = len(inspect.signature(one).parameters)
+            made = one(*[(index,) for index in range(many)])
+            self.assertIs(made == one(*[(index,) for index in range(many)]), True)
+            self.assertIs(made != one(*[(index,) for index in range(many)]), False)
+            for changed in range(many):
+                other = one(*[(index, changed)[:1 + (index == changed)] for index in range(many)])
+                self.assertIs(made == other, False)
+                self.assertIs(made != other, True)
+            for unlike in classes:
+                if unlike is not one and len(inspect.signature(unlike).parameters) == many:
+                    self.assertFalse(made == unlike(*[(index,) for index in range(many)]))
 
 
 if __name__ == "__main__":

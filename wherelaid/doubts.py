@@ -5,7 +5,7 @@ from wherelaid.loads import centre_of
 from wherelaid.places import check_place, is_point, turn_place
 from wherelaid.planes import is_plane, plane_through
 from wherelaid.ratios import (
-    ZERO, compare, greatest_of, is_ratio, least_of, minus, negative, over, plus, times,
+    ZERO, compare, greatest_of, is_from_zero, least_of, minus, negative, over, plus, times,
 )
 from wherelaid.shares import dot_of, way_to
 from wherelaid.skins import height_at, skin_at, skin_pieces
@@ -97,7 +97,7 @@ def doubt_fault(scale, told):
     """Judge whether the thing is what greatest_doubt may return, or as good."""
     if not isinstance(told, Doubt):
         return "kind"
-    if not is_ratio(told.size) or told.size[0] < 0:
+    if not is_from_zero(told.size):
         return "size"
     if not _is_doubt_swap(scale, told.size, told.swap):
         return "swap"

@@ -2,7 +2,7 @@
 
 from wherelaid.errors import BadError, BadSize
 from wherelaid.ratios import (
-    ONE, compare, greatest_of, is_factor, is_ratio, least_of, minus, over, plus, times,
+    ONE, compare, greatest_of, is_factor, is_from_zero, least_of, minus, over, plus, times,
 )
 
 
@@ -56,7 +56,7 @@ def best_factor(scale):
 def error_bounds(factor, error):
     """Return the least and the greatest factor that err no more; BadSize, then BadError."""
     check_factor(factor)
-    if not is_ratio(error) or error[0] < 0:
+    if not is_from_zero(error):
         raise BadError(error)
     return (times(minus(ONE, error), factor), times(plus(ONE, error), factor))
 

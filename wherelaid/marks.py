@@ -2,7 +2,7 @@
 
 from wherelaid.errors import BadCount, BadMarks, BadSum, BadTie
 from wherelaid.lots import lots_of
-from wherelaid.ratios import is_ratio, is_whole, sum_of
+from wherelaid.ratios import is_from_zero, is_whole, sum_of
 from wherelaid.sequences import is_couple, is_sequence
 
 MOST_AXLES = 8
@@ -36,10 +36,15 @@ def are_marks(count, low, high):
     return is_whole(low, 0, count) and is_whole(high, 0, count) and low < high
 
 
-def check_ties(count, ties):
-    """Return 0 to 24 ties as a tuple of tuples, or raise BadCount or BadTie."""
+def check_count(count):
+    """Raise BadCount if this is no number of axles."""
     if not is_whole(count, 1, MOST_AXLES):
         raise BadCount(count)
+
+
+def check_ties(count, ties):
+    """Return 0 to 24 ties as a tuple of tuples, or raise BadCount or BadTie."""
+    check_count(count)
     if not is_sequence(ties, 0, MOST_TIES):
         raise BadTie(0, "many")
     for index, tie in enumerate(ties):
@@ -156,7 +161,7 @@ def _are_weights(count, thing):
     """Whether the thing is a sequence of one ratio from 0 on for each axle."""
     if not is_sequence(thing, count, count):
         return False
-    return all([is_ratio(weight) and weight[0] >= 0 for weight in thing])
+    return all([is_from_zero(weight) for weight in thing])
 
 
 def needless_ties(count, ties):

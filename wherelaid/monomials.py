@@ -2,7 +2,7 @@
 
 from wherelaid.errors import BadMonomial, BadValues
 from wherelaid.powers import raised
-from wherelaid.ratios import is_ratio, is_whole, over, times
+from wherelaid.ratios import is_above_zero, is_whole, over, times
 from wherelaid.sequences import is_couple, is_sequence
 
 LETTERS = ("a", "b", "c", "d", "e", "f", "g", "h")
@@ -12,11 +12,6 @@ MOST_POWER = 100
 def is_letter(thing):
     """Whether the thing is a letter."""
     return thing in LETTERS
-
-
-def is_above_zero(thing):
-    """Whether the thing is a ratio above 0, of any size."""
-    return is_ratio(thing) and thing[0] > 0
 
 
 def check_values(letters, values):

@@ -3,11 +3,10 @@
 from wherelaid.errors import BadPlan, BadRow
 from wherelaid.hulls import first_beyond
 from wherelaid.linear import along_row, amounts_or_way, product_of, room_along, unit_row
-from wherelaid.monomials import is_above_zero
 from wherelaid.places import check_places, is_place
 from wherelaid.pushes import fit_fault, lean_rows
 from wherelaid.ratios import (
-    ONE, ZERO, is_ratio, least_of, minus, negative, over, plus, sum_of, times,
+    ONE, ZERO, is_above_zero, is_ratio, least_of, minus, negative, over, plus, sum_of, times,
 )
 from wherelaid.sequences import is_sequence
 

@@ -6,7 +6,7 @@ from wherelaid.loads import centre_of, check_loads, moment_of, total_of
 from wherelaid.lots import lots_of
 from wherelaid.places import check_leg, check_place, check_places, in_row
 from wherelaid.ratios import (
-    ONE, ZERO, ascending, greatest_of, is_ratio, least_of, minus, over, sum_of, times,
+    ONE, ZERO, ascending, greatest_of, is_from_zero, least_of, minus, over, sum_of, times,
 )
 from wherelaid.sequences import is_sequence
 from wherelaid.shares import shares_at
@@ -17,7 +17,7 @@ def _wrong_push(many, pushes):
     if not is_sequence(pushes, many, many):
         return (0, "many")
     for index, push in enumerate(pushes):
-        if not is_ratio(push) or push[0] < 0:
+        if not is_from_zero(push):
             return (index, "push")
     return None
 

@@ -51,6 +51,16 @@ def is_factor(thing):
     return is_within_bound(thing, LARGE) and thing[0] > 0
 
 
+def is_above_zero(thing):
+    """Whether the thing is a ratio above 0, of any size."""
+    return is_ratio(thing) and thing[0] > 0
+
+
+def is_from_zero(thing):
+    """Whether the thing is a ratio from 0 on, of any size."""
+    return is_ratio(thing) and thing[0] >= 0
+
+
 def check_size(size):
     """Return the size, or raise BadSize if it is no arm size."""
     if not is_arm_size(size):

@@ -9,7 +9,7 @@ from wherelaid.loads import check_loads
 from wherelaid.lots import lots_of
 from wherelaid.places import check_place, check_places, in_row, is_point
 from wherelaid.ratios import (
-    ONE, ZERO, compare, greatest_of, is_ratio, is_weight, is_whole, least_of, minus, negative,
+    ONE, ZERO, compare, greatest_of, is_above_zero, is_from_zero, is_weight, is_whole, least_of, minus, negative,
     over, plus, sum_of, times,
 )
 from wherelaid.sequences import is_couple
@@ -192,7 +192,7 @@ def best_fault(places, loads, best):
     checked = check_loads(loads)
     if not isinstance(best, BestOwn):
         return "kind"
-    if not is_ratio(best.weight) or best.weight[0] < 0:
+    if not is_from_zero(best.weight):
         return "weight"
     if not is_point(best.place) or first_beyond(rows, best.place) is not None:
         return "place"
@@ -214,7 +214,7 @@ def _are_shares(sides, weight, thing):
     for couple in thing:
         if not is_couple(couple) or not is_whole(couple[0], 0, len(sides) - 1):
             return False
-        if not is_ratio(couple[1]) or couple[1][0] <= 0:
+        if not is_above_zero(couple[1]):
             return False
     numbers = [number for number, _ in thing]
     if numbers != sorted(set(numbers)):
