@@ -185,6 +185,35 @@ LISTED = {
         parts_range(showing, step, many) whole_range(step, rows)
         parts_for(showing, step, many, total)
     """,
+    "pans": """
+        twice_weighed(poise, other) compare_twice(poise, other, weight) sum_twice(rows)
+        Pans(left, right) TwiceWeighed(square, quotient)
+    """,
+    "readings": """
+        check_readings(many, rows) case_fault(many, rows, case) fitting_case(many, rows)
+        PansCase(squares, quotient) NoCase(rows)
+    """,
+    "spans": """
+        square_span(many, rows, load) arms_span(many, rows) quotient_span(many, rows, load, other)
+        case_of_square(many, rows, load, square) Span(least, greatest)
+    """,
+    "tares": "tare_span(many, rows, load)",
+    "edits": """
+        check_edits(weighing, edits) weighing_after(weighing, edits) Weighing(scale, own, loads)
+    """,
+    "wishes": """
+        check_wishes(weighing, wishes) broken_wish(weighing, wishes)
+        broken_fault(weighing, wishes, broken) Broken(index, why)
+    """,
+    "sizes": """
+        sizes_for(weighing, slot, wishes) single_mends(weighing, wishes)
+        Sizes(low, high) Excluding(first, second)
+    """,
+    "mends": """
+        find_mends(weighing, pool, wishes) mends_fault(weighing, pool, wishes, mends)
+        find_spoilers(weighing, pool, wishes) Mends(least, losses) Spoiler(choice, added, broken)
+    """,
+    "bench": "Bench(weighing)",
 }
 # Classes that keep what they are given and check nothing.
 RESULTS = {
@@ -195,19 +224,35 @@ RESULTS = {
     "plans": "Sure Alike", "evenplans": "Masked", "hidden": "Left", "cores": "Shows",
     "marks": "Trail Unsure", "cartbounds": "NoCart SumBounds", "sums": "Totals Spread",
     "found": "CentreRange OtherLoads", "groupings": "BestGroupings",
-    "loadsets": "MixRange SureLoads", "shown": "Behind",
+    "loadsets": "MixRange SureLoads", "shown": "Behind", "pans": "TwiceWeighed",
+    "readings": "PansCase NoCase", "spans": "Span", "wishes": "Broken", "sizes": "Sizes Excluding",
+    "mends": "Mends Spoiler",
 }
 # The methods, len and iteration among them, and the properties that are listed for classes.
 METHODS = {
     "scales.Scale": "__len__(self)", "scales.Plain": "__len__(self)",
     "carts.Cart": "mirrored(self) shifted(self, amount) coupled(self, other, distance) __len__(self)",
     "groups.Groups": "group_of(self, leg) __len__(self) __iter__(self)",
+    "pans.Pans": "sinks(self, left_weight, right_weight) poise_for(self, weight, pan) exchanged(self)",
+    "bench.Bench": """
+        put(self, edit) take_back(self, number) broken_now(self, wishes) shown_range(self) trial(self)
+        tried(self, call) __len__(self) __iter__(self)
+    """,
 }
 PROPERTIES = {
     "scales.Scale": "factors", "scales.Plain": "factors", "castings.Casting": "letters",
     "laying.Own": "as_load", "carts.Cart": "span", "groups.Groups": "factors",
+    "edits.Weighing": "borne", "mends.Mends": "needed",
 }
-GENERATORS = ("orders.holding_lots", "groupings.all_groupings")
+GENERATORS = ("orders.holding_lots", "groupings.all_groupings", "sizes.single_mends")
+# What is told of each object of a class that is no result, by attributes of these names.
+ATTRIBUTES = {
+    "scales.Lever": "out above inward", "scales.Scale": "levers legs places",
+    "scales.Plain": "places", "monomials.Monomial": "number powers", "castings.Casting": "scale rows",
+    "laying.Own": "weight place", "carts.Cart": "axles tread", "groups.Groups": "scale rows places",
+    "pans.Pans": "left right quotient", "edits.Weighing": "scale own loads",
+    "bench.Bench": "start weighing standing log",
+}
 
 
 def named(name):
@@ -232,7 +277,7 @@ class Interface(unittest.TestCase):
             module = importlib.import_module(f"wherelaid.{file}")
             for name in re.findall(r"\b[A-Z]\w*(?=\()", text):
                 one = getattr(module, name)
-                self.assertIn("__eq__", vars(one))
+                self.assertEqual("__eq__" in vars(one), name != "Bench")
                 self.assertEqual(one.__bases__, (object,))
 
     def test_methods_and_properties(self):
@@ -242,6 +287,25 @@ class Interface(unittest.TestCase):
         for name, text in PROPERTIES.items():
             for word in text.split():
                 self.assertIsInstance(vars(named(name))[word], property, name)
+
+    def test_attributes_are_set_on_each_object(self):
+        one, spot, other = (1, 1), ((0, 1), (0, 1)), ((1, 1), (0, 1))
+        lever = named("scales.Lever")(one)
+        scale = named("scales.Scale")([lever], [(0, one), (0, one)], [spot, other])
+        own = named("laying.Own")(one, spot)
+        weighing = named("edits.Weighing")(scale, own, ())
+        made = {
+            "scales.Lever": lever, "scales.Scale": scale, "laying.Own": own, "edits.Weighing": weighing,
+            "scales.Plain": named("scales.plain_of")(scale), "bench.Bench": named("bench.Bench")(weighing),
+            "monomials.Monomial": named("monomials.Monomial")(one), "pans.Pans": named("pans.Pans")(one, one),
+            "castings.Casting": named("castings.Casting")(scale, ()), "carts.Cart": named("carts.Cart")([one]),
+            "groups.Groups": named("groups.Groups")(scale, [[0], [1]]),
+        }
+        for name, text in ATTRIBUTES.items():
+            self.assertLessEqual(set(text.split()), set(vars(made[name])), name)
+        listed = {f"{file}.{name}" for file, text in LISTED.items() for name in re.findall(r"\b[A-Z]\w*(?=\()", text)}
+        results = {f"{file}.{name}" for file, names in RESULTS.items() for name in names.split()}
+        self.assertEqual(listed, results | set(ATTRIBUTES))
 
     def test_generators(self):
         for name in GENERATORS:

@@ -8,18 +8,29 @@ from wherelaid.sequences import is_couple, is_sequence
 MOST_LOADS = 8
 
 
+def wrong_load(thing):
+    """Return the first word that makes the thing no load, or None."""
+    if not is_couple(thing):
+        return "load"
+    if not is_weight(thing[0]):
+        return "weight"
+    return None if is_place(thing[1]) else "place"
+
+
+def load_row(load):
+    """Return the load as a tuple, with its place as one."""
+    return (load[0], tuple(load[1]))
+
+
 def check_loads(loads):
     """Return 0 to 8 loads as a tuple of couples (weight, place), or raise BadLoads."""
     if not is_sequence(loads, 0, MOST_LOADS):
         raise BadLoads(0, "many")
     for index, load in enumerate(loads):
-        if not is_couple(load):
-            raise BadLoads(index, "load")
-        if not is_weight(load[0]):
-            raise BadLoads(index, "weight")
-        if not is_place(load[1]):
-            raise BadLoads(index, "place")
-    return tuple([(weight, tuple(place)) for weight, place in loads])
+        what = wrong_load(load)
+        if what is not None:
+            raise BadLoads(index, what)
+    return tuple([load_row(load) for load in loads])
 
 
 def total_of(loads):
