@@ -6,7 +6,7 @@ from fractions import Fraction
 from itertools import permutations
 
 from tests.helper import (
-    Case, NOT_RATIOS, NOT_SEQUENCES, NOT_WHOLE, fraction, great, ratio,
+    Case, NOT_RATIOS, NOT_SEQUENCES, NOT_WHOLE, fraction, great, place, ratio,
 )
 from wherelaid.cartbounds import (
     NoCart, SumBounds, check_tellings, fitting_weights, limit_verdict, needless_tellings, next_tie,
@@ -16,6 +16,11 @@ from wherelaid.carts import Cart, stops_of
 from wherelaid.errors import (
     BadAmount, BadCount, BadMarks, BadSlack, BadTelling, BadTie, BadTieShowings, NoFit, NotMet,
 )
+from wherelaid.loads import centre_of
+from wherelaid.marks import sure_axles
+from wherelaid.ratios import plus
+from wherelaid.scales import Plain
+from wherelaid.skins import lower_at, range_of, upper_at
 
 ONE, ZERO = ratio(1), ratio(0)
 BAD_MARKS = ((0, 4), (-1, 2), (1, 1), (2, 1), (0, True), (False, 1), (None, 1), ("0", 1), (0, (1, 1)))
@@ -480,6 +485,35 @@ class Together(Case):
                     told = sum_bounds(len(cart), rows, low, high)
                     self.assertLessEqual(fraction(told.least), sum_between(own, low, high))
                     self.assertTrue(told.most is None or fraction(told.most) >= sum_between(own, low, high))
+
+
+    def test_carts_that_roll_over_a_plate(self):
+        # What a plate on legs shows at each stop tells weights that the true ones are among.
+        length, weights = 12, (ratio(4), ratio(2), ratio(9), ratio(5))
+        places = [place(x, y) for x in (0, length) for y in (-1, 1)]
+        for cart, own in ((Cart([ratio(at) for at in (0, 3, 7, 15)], ratio("1/2")), weights),
+                          (Cart([ratio(at) for at in (0, 8, 12, 15)], ratio("1/2")).mirrored().shifted(ratio(2)), weights)):
+            for factors in ((2, 2, 2, 2), (1, 2, 3, 2), (1, "11/10", "9/10", 1)):
+                scale = Plain(places, [ratio(factor) for factor in factors])
+                sizes = [fraction(factor) for factor in scale.factors]
+                rows = []
+                for low, high, middle in stops_of(cart, ratio(length)):
+                    loads = [(own[axle], (plus(middle, cart.axles[axle]), ZERO)) for axle in range(low, high)]
+                    told = range_of(scale, loads)
+                    rows.append((low, high, ratio(fraction(told.least) / max(sizes)), ratio(fraction(told.greatest) / min(sizes))))
+                    there = centre_of(loads)
+                    total = sum_between(own, low, high)
+                    self.assertEqual(fraction(told.least), total * fraction(lower_at(scale, there)))
+                    self.assertEqual(fraction(told.greatest), total * fraction(upper_at(scale, there)))
+                self.assertGreater(len(rows), 3)
+                self.assertTrue(fits(4, rows, own))
+                for low, high in pairs(4):
+                    told = sum_bounds(4, rows, low, high)
+                    self.assertLessEqual(fraction(told.least), sum_between(own, low, high))
+                    if told.most is not None:
+                        self.assertGreaterEqual(fraction(told.most), sum_between(own, low, high))
+                    if factors == (2, 2, 2, 2) and sure_axles(4, [row[:2] for row in rows]) == (0, 1, 2, 3):
+                        self.assertEqual((told.least, told.most), (ratio(sum_between(own, low, high)),) * 2)
 
 
 class Equality(Case):

@@ -57,6 +57,13 @@ def nested(node, inside, outer):
         yield from nested(part, inside or bool(names), outer | names)
 
 
+def is_lazy(call):
+    """Whether the call gives a range, a zip, a view or the like."""
+    if isinstance(call.func, ast.Attribute):
+        return call.func.attr in ("items", "keys", "values")
+    return call.func.id in ("range", "zip", "enumerate", "reversed", "map")
+
+
 class Form(unittest.TestCase):
 
     def test_the_folder(self):
@@ -133,6 +140,36 @@ class Form(unittest.TestCase):
             taken |= stored(function)
             for name in nested(function, False, set()):
                 self.assertNotIn(name, taken, at)
+
+    def test_lazy_things_are_iterated_at_once(self):
+        takers = {"list", "tuple", "dict", "sorted", "sum", "any", "all", "enumerate", "zip", "min", "max"}
+        for path, tree in files():
+            above = {part: node for node in ast.walk(tree) for part in ast.iter_child_nodes(node)}
+            for node in ast.walk(tree):
+                if isinstance(node, ast.Call) and is_lazy(node):
+                    by, at = above[node], f"{path.name}:{node.lineno}"
+                    if isinstance(by, ast.Call):
+                        ranged = by.func.id == "reversed" and node.func.id == "range"
+                        self.assertTrue(by.func.id in takers or ranged, at)
+                    elif isinstance(by, ast.Assign):
+                        self.assertEqual(getattr(node.func, "id", None), "range", at)
+                    else:
+                        self.assertIsInstance(by, (ast.For, ast.comprehension, ast.Compare), at)
+
+    def test_sets_stand_where_they_may(self):
+        for at, node in nodes((ast.Set, ast.SetComp)):
+            self.fail(at)
+        for path, tree in files():
+            above = {part: node for node in ast.walk(tree) for part in ast.iter_child_nodes(node)}
+            for node in ast.walk(tree):
+                if isinstance(node, ast.Call) and getattr(node.func, "id", None) == "set":
+                    self.assertIn(above[node].func.id, ("sorted", "len"), f"{path.name}:{node.lineno}")
+
+    def test_is_with_none_alone(self):
+        for at, node in nodes(ast.Compare):
+            for operator, right in zip(node.ops, node.comparators):
+                if isinstance(operator, (ast.Is, ast.IsNot)):
+                    self.assertIsInstance(right, ast.Constant, at)
 
     def test_strings(self):
         for at, node in nodes(ast.Constant):

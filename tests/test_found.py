@@ -8,14 +8,18 @@ from tests.grouped import (
     ONE, ZERO, corner_selections, great_groups, gives, load_of, shows, some_groups, some_pushes,
     some_showings, square,
 )
-from tests.helper import Case, NOT_RATIOS, NOT_SEQUENCES, fraction, great, place, ratio
-from wherelaid.along import mirrored, shifted
+from tests.helper import Case, NOT_RATIOS, NOT_SEQUENCES, fraction, great, place, ratio, scale
+from wherelaid.along import mirrored, shifted, stretched, turned
 from wherelaid.errors import BadDirection, BadPlace, BadShowings, NothingShown
 from wherelaid.found import (
     CentreRange, OtherLoads, alike_loads, centre_corners, centre_range, found_load, pushes_of_centre, sure_along,
 )
 from wherelaid.groups import Groups, showings_of
 from wherelaid.hulls import corner_points
+from wherelaid.leverways import cut_lever, lengthened, set_between
+from wherelaid.places import mirror_place, shift_place, stretch_place, turn_place
+from wherelaid.scales import plain_of
+from wherelaid.scaletext import read_scale, scale_text
 
 ALONG = (place(1, 0), place(0, 1), place(1, 1), place("-1/2", "2/3"), place(0, -3), (great(150, 3), great(150, 9)))
 # Things that are no couples of ratios.
@@ -242,6 +246,40 @@ class Along(Case):
         for led in (shifted(one.scale, place(5, "-1/3")), mirrored(one.scale)):
             self.assertTrue(self.check(Groups(led, one.rows), place(1, 0)))
             self.assertFalse(self.check(Groups(led, one.rows), place(0, 1)))
+
+
+class Together(Case):
+
+    def test_changes_that_keep_the_factors_and_texts(self):
+        one = scale()
+        rows = ((0, 3), (1,), (2, 4))
+        groups = Groups(one, rows)
+        showings = (ratio(2), ratio("3/2"), ratio(7))
+        back, _ = read_scale(scale_text(one))
+        for other in (lengthened(one, 1, ratio("7/3")), cut_lever(one, 1), set_between(one, 2, ratio(3), ratio(5)), back, plain_of(one)):
+            led = Groups(other, rows)
+            self.assertEqual(centre_corners(led, showings), centre_corners(groups, showings))
+            for way in ALONG[:3]:
+                told, want = centre_range(led, showings, way), centre_range(groups, showings, way)
+                self.assertEqual((told.least, told.greatest), (want.least, want.greatest))
+                self.assertEqual(sure_along(led, way) is None, sure_along(groups, way) is None)
+            self.assertEqual(found_load(led, (ZERO, ONE, ZERO)), found_load(groups, (ZERO, ONE, ZERO)))
+            self.assertEqual(alike_loads(led, showings) is None, alike_loads(groups, showings) is None)
+
+    def test_plates_led_along(self):
+        one = scale()
+        rows = ((0, 3), (1,), (2, 4))
+        showings = (ratio(2), ratio("3/2"), ratio(7))
+        corners = centre_corners(Groups(one, rows), showings)
+        load = found_load(Groups(one, rows), (ZERO, ratio(4), ZERO))
+        by, size = place(5, "-1/3"), ratio("7/2")
+        for led, lead in ((shifted(one, by), lambda spot: shift_place(spot, by)), (turned(one), turn_place),
+                          (mirrored(one), mirror_place), (stretched(one, size), lambda spot: stretch_place(spot, size))):
+            groups = Groups(led, rows)
+            self.assertEqual(centre_corners(groups, showings), corner_points([lead(spot) for spot in corners]))
+            self.assertEqual(found_load(groups, (ZERO, ratio(4), ZERO)), (load[0], lead(load[1])))
+            for spot in corners:
+                self.assertIsNotNone(pushes_of_centre(groups, showings, lead(spot)))
 
 
 class Equality(Case):

@@ -138,7 +138,7 @@ class Tares(Case):
             self.refuses(BadMany, (many,), tare_span, many, None, None)
         for thing in NOT_SEQUENCES + ((good,) * 25,):
             self.refuses(BadReading, (0, "many"), tare_span, 2, thing, None)
-        for row in NOT_SEQUENCES + ((), good[:2], (*good, None), ("lode", 0, "thing"), (None, 0, "thing"), (["load"], 0, "thing")):
+        for row in NOT_SEQUENCES + ((), good[:2], (*good, None), ("lode", 0, "thing"), ("lode", ONE, "thing"), (None, ONE, "thing"), (["load"], 0, "thing")):
             self.refuses(BadReading, (1, "reading"), tare_span, 2, (good, row, None), None)
         for number in NOT_WHOLE + (2, -1, ONE):
             self.refuses(BadReading, (1, "reading"), tare_span, 2, (good, ("load", number, "thing")), None)

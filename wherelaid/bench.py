@@ -7,6 +7,29 @@ from wherelaid.skins import range_of
 from wherelaid.wishes import broken_wish
 
 
+class Trial:
+    """What a bench was at the beginning of a with, and is again at its end."""
+
+    def __init__(self, bench):
+        self.bench = bench
+
+    def __enter__(self):
+        bench = self.bench
+        self.weighing = bench.weighing
+        self.standing = bench.standing
+        self.log = bench.log
+        self.given = bench._given
+        return bench
+
+    def __exit__(self, kind, value, trace):
+        bench = self.bench
+        bench.weighing = self.weighing
+        bench.standing = self.standing
+        bench.log = self.log
+        bench._given = self.given
+        return False
+
+
 class Bench:
     """A weighing, the edits of it that stand, and all that was done."""
 
@@ -67,29 +90,6 @@ class Bench:
 
     def __iter__(self):
         return iter(self.standing)
-
-
-class Trial:
-    """What a bench was at the beginning of a with, and is again at its end."""
-
-    def __init__(self, bench):
-        self.bench = bench
-
-    def __enter__(self):
-        bench = self.bench
-        self.weighing = bench.weighing
-        self.standing = bench.standing
-        self.log = bench.log
-        self.given = bench._given
-        return bench
-
-    def __exit__(self, kind, value, trace):
-        bench = self.bench
-        bench.weighing = self.weighing
-        bench.standing = self.standing
-        bench.log = self.log
-        bench._given = self.given
-        return False
 
 
 def _edits_of(standing):
