@@ -4,6 +4,8 @@ import ast
 import unittest
 from pathlib import Path
 
+from tests.walks import changed_walks
+
 PACKAGE = Path(__file__).resolve().parent.parent / "wherelaid"
 LIBRARY = {"math": ("gcd", "lcm", "isqrt", "comb", "perm", "factorial")}
 BUILTINS = {
@@ -190,6 +192,47 @@ class Form(unittest.TestCase):
             for name in ready:
                 settled.add(name)
                 del needs[name]
+
+
+class Walks(unittest.TestCase):
+
+    def rows(self, *rows):
+        """The rows that change what a loop around them walks, for a function of these rows."""
+        return [row - 2 for row, _ in changed_walks(ast.parse("\n    ".join(["def told(xs):", *rows])))]
+
+    def test_what_a_loop_walks_is_not_changed_in_it(self):
+        for path, tree in files():
+            self.assertEqual(changed_walks(tree), [], path)
+
+    def test_changes_by_any_name_are_seen(self):
+        for row in ("xs.append(x)", "xs[0] = x", "del xs[0]", "xs[1:] = [x]", "xs += [x]", "y = xs.pop()",
+                    "(xs if x else ys).append(x)"):
+            self.assertEqual(self.rows("for x in xs:", f"    {row}"), [1], row)
+        for head in ("enumerate(xs)", "zip(xs, ys)", "reversed(xs)", "xs.items()", "zs or xs", "xs if zs else ys"):
+            self.assertEqual(self.rows(f"for x in {head}:", "    xs.pop()"), [1], head)
+        for link in ("ys = xs", "xs = ys", "ys = zs = xs", "zs, ys = 1, xs", "ys = zs if n else xs", "ys = zs or xs",
+                     "self.rows = xs; ys = self.rows", "zs[0] = xs; ys = zs[1]", "zs = xs; ys = zs"):
+            self.assertEqual(self.rows(link, "for x in xs:", "    ys.append(x)"), [2], link)
+            self.assertEqual(self.rows("for x in xs:", "    ys.append(x)", link), [1], link)
+        self.assertEqual(self.rows("ys = xs", "return [ys.pop() for x in xs]"), [1])
+        self.assertEqual(self.rows("for x in self.rows:", "    other.rows.append(x)"), [1])
+        self.assertEqual(self.rows(
+            "ways = [[]]",
+            "for x in xs:",
+            "    grown = [[*parts, x] for parts in ways]",
+            "    for parts in ways:",
+            "        grown.append([x, *parts])",
+            "    ways = grown"), [4])
+
+    def test_changes_of_another_thing_may_stand(self):
+        for rows in (["for x in list(xs):", "    xs.append(x)"],
+                     ["ys = list(xs)", "for x in xs:", "    ys.append(x)"],
+                     ["ys = [*xs]", "for x in xs:", "    ys[0] = x"],
+                     ["ys = xs[:]", "for x in xs:", "    ys.pop()"],
+                     ["for x in xs:", "    x[0] = 1"],
+                     ["for k in range(len(xs)):", "    xs[k] = 0"],
+                     ["for x in xs:", "    ys.append(x)", "ys.pop()", "xs.append(1)"]):
+            self.assertEqual(self.rows(*rows), [], rows)
 
 
 if __name__ == "__main__":

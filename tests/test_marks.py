@@ -8,7 +8,7 @@ from itertools import combinations
 from tests.helper import Case, NOT_RATIOS, NOT_SEQUENCES, NOT_WHOLE, fraction, ratio
 from wherelaid.errors import BadCount, BadMarks, BadSum, BadTie
 from wherelaid.marks import (
-    Trail, Unsure, blocks_of, check_ties, fewest_ties, needless_ties, sure_axles, sure_sum,
+    Trail, Unsure, _partings, blocks_of, check_ties, fewest_ties, needless_ties, sure_axles, sure_sum,
     trail_fault, unsure_fault,
 )
 
@@ -269,6 +269,14 @@ class Fewest(Case):
         self.assertEqual(len(self.check(8, line, ((0, 3), (2, 5), (7, 8)))), 6)
         self.assertEqual(len(self.check(8, line + ((0, 5),), ((0, 5), (2, 4), (7, 8)))), 4)
         self.assertEqual(len(self.check(8, line + ((0, 3), (3, 5)), ((0, 5), (0, 3), (3, 5)))), 2)
+
+    def test_all_partings(self):
+        a, b, c = (0, 1), (0, 2), (1, 3)
+        self.assertEqual(_partings([]), [[]])
+        self.assertEqual(_partings([a]), [[[a]]])
+        self.assertEqual(_partings([a, b]), [[[a], [b]], [[a, b]]])
+        self.assertEqual(_partings([a, b, c]), [
+            [[a], [b], [c]], [[a, b], [c]], [[a, c], [b]], [[a], [b, c]], [[a, b, c]]])
 
     def test_random_ties(self):
         lot = random.Random(5)

@@ -208,11 +208,10 @@ def _partings(pairs):
     """Return all ways to part the pairs, each a list of parts, each part a list of pairs."""
     ways = [[]]
     for pair in pairs:
-        grown = [[*parts, [pair]] for parts in ways]
-        for parts in ways:
-            for at in range(len(parts)):
-                grown.append([*parts[:at], [*parts[at], pair], *parts[at + 1:]])
-        ways = grown
+        alone = [[*parts, [pair]] for parts in ways]
+        joined = [[*parts[:at], [*parts[at], pair], *parts[at + 1:]]
+                  for parts in ways for at in range(len(parts))]
+        ways = [*alone, *joined]
     return ways
 
 
